@@ -1,0 +1,1 @@
+"""Lockstold: which told answers of a package chooser can come from one shelf of releases."""

@@ -1,0 +1,134 @@
+"""[2]: how functions are called, and what they return, for each function of the interface."""
+
+import copy
+import unittest
+
+from helper import INTERFACE, Dice, everything, listed, mixed, outcome, same, tupled
+
+RULES = (("a", (0, 2)), ("b", (1, 3)))
+ONE, TWO = (("a", 2), ("b", 1)), (("a", 2), ("c", 4))
+WISH, FLAT = (("gui", (1, 2)), ("core", (3,))), (("core", (2, 3)),)
+PAIR, TRIO, LONE = (("core", 3), ("gui", 2)), (("core", 3), ("gui", 1), ("log", 4)), (("core", 2),)
+SPRING = ((("app", 1), (("lib", (1, 2)),), 0, None), (("app", 2), (("lib", (2,)),), 3, None),
+          (("lib", 1), (), 0, None), (("lib", 2), (("app", (0, 2)),), 3, 9))
+AUTUMN = ((("app", 1), (("lib", (2, 3)),), 0, None), (("app", 2), (("lib", (0, 1)),), 0, None),
+          (("lib", 1), (("app", (0, 1)),), 2, None), (("lib", 2), (), 10, None))
+WIDE = tuple(((name, version), (), 0, None) for name in "abcdef" for version in (1, 2, 3, 4))
+THINGS = [(), [], ONE, PAIR, WISH, RULES, SPRING, ("a", 1), (0, 2), "ab", 1, True, None]
+RELEASES = [("app", 1), ("app", 2), ("lib", 2), ("zoo", 1)]
+SHELVES = [(), SPRING, AUTUMN, SPRING[:2], WIDE]
+LOCKS = [(), (("app", 1),), (("app", 1), ("lib", 1)), (("app", 2), ("lib", 2)), (("zoo", 1),)]
+
+# Samples for each parameter, by the file and the name of it.
+SAMPLES = {
+    "states": {"rules": [(), RULES], "name": ["a", "c"], "state": [0, 1, 2], "lot": [(0, 1, 2), (2,)],
+               "more": [(2, 3), (5,)]},
+    "locks": {"lock": [(), ONE, TWO, (("b", 1),)], "other": [(), TWO, ONE], "name": ["a", "z"],
+              "release": [("a", 7), ("aa", 3)], "names": [(), ("a", "b", "c")],
+              "renames": [(), (("a", "z"),), (("a", "b"), ("b", "a")), (("a", "b"),)],
+              "choices": [(), RULES], "number": [-1, 0, 3, 4]},
+    "wishes": {"wish": [(), WISH, FLAT], "one": [(), WISH, FLAT], "two": [(), WISH, (("core", (1,)),)],
+               "lock": [(), PAIR, LONE], "far": [(), TRIO, LONE], "locks": [(), (TRIO, LONE, PAIR, (), PAIR)],
+               "name": ["gui", "app"], "names": [(), ("app", "core", "log")], "versions": [(1,), (2, 5)]},
+    "shelves": {"shelf": SHELVES, "other": SHELVES, "release": RELEASES, "name": ["app", "lib", "zoo", "A"],
+                "rules": [(), (("lib", (0, 1)),), (("zoo", (1,)),)], "state": [0, 2], "day": [0, 4, 11],
+                "names": [(), (("app", "zoo"), ("lib", "app")), (("app", "lib"),)]},
+    "standing": {"shelf": SHELVES, "day": [0, 4, 11], "lock": LOCKS, "release": RELEASES, "one": RELEASES,
+                 "other": RELEASES, "wish": [(), (("lib", (1, 2)), ("app", (1, 2)))],
+                 "wishes": [(), ((), (("app", (2,)),), (("zoo", (1,)),))]},
+    "worn": {"shelf": SHELVES, "one": SHELVES, "other": SHELVES, "day": [0, 4, 11]},
+}
+
+
+def told_things(file, parameter, values):
+    if parameter == "thing":
+        return THINGS + [("lacking", ("app", 1)), ("barred", ("app", 1), "lib"), (("app", (1,)),), (("app", 1),)]
+    return values[file][parameter]
+
+
+def all_calls():
+    """Triples (function, parameters, arguments) for each function, over all samples."""
+    known = everything()
+    for file, functions in INTERFACE.items():
+        for name, parameters in functions.items():
+            given = [()]
+            for parameter in parameters:
+                given = [own + (value,) for own in given for value in told_things(file, parameter, SAMPLES)]
+            dice = Dice(name)
+            for own in given if len(given) <= 60 else dice.rolls.sample(given, 60):
+                yield known[name], parameters, own
+
+
+def like(form, parameters, arguments):
+    """The arguments with form on each of them but thing."""
+    return tuple(own if parameter == "thing" else form(own) for parameter, own in zip(parameters, arguments))
+
+
+class CallsTest(unittest.TestCase):
+
+    def test_lists_and_tuples_are_alike(self):
+        for function, parameters, arguments in all_calls():
+            wanted = outcome(function, *arguments)
+            for form in (listed, mixed, lambda own: mixed(own, False)):
+                found = outcome(function, *like(form, parameters, arguments))
+                self.assertTrue(same(tuple(found[:2]), tuple(wanted[:2])), (function, arguments))
+
+    def test_names_do_as_places(self):
+        for function, parameters, arguments in all_calls():
+            wanted = outcome(function, *arguments)
+            found = outcome(function, **dict(zip(parameters, arguments)))
+            self.assertTrue(same(found[:2], wanted[:2]), (function, arguments))
+
+    def test_arguments_stay_as_they_are(self):
+        for function, parameters, arguments in all_calls():
+            given = like(listed, parameters, arguments)
+            before = copy.deepcopy(given)
+            outcome(function, *given)
+            self.assertTrue(same(given, before), (function, arguments))
+
+    def test_the_same_call_returns_an_equal_result(self):
+        for function, parameters, arguments in all_calls():
+            first, second = outcome(function, *arguments), outcome(function, *arguments)
+            self.assertTrue(same(first[:2], second[:2]), (function, arguments))
+
+    def test_each_returned_list_is_new(self):
+        many = 0
+        for function, parameters, arguments in all_calls():
+            for form in (tupled, listed):
+                given = like(form, parameters, arguments)
+                kind, found = outcome(function, *given)[:2]
+                if kind != "gave" or not isinstance(found, list):
+                    continue
+                many += 1
+                kept, before = copy.deepcopy(found), copy.deepcopy(given)
+                found.append("more")
+                self.assertTrue(same(given, before), (function, arguments))
+                self.assertTrue(same(outcome(function, *given)[1], kept), (function, arguments))
+        self.assertGreater(many, 50)
+
+    def test_within_a_list_all_is_made_of_tuples(self):
+        for function, parameters, arguments in all_calls():
+            kind, found = outcome(function, *like(listed, parameters, arguments))[:2]
+            if kind == "gave" and isinstance(found, (list, tuple)):
+                for part in found:
+                    self.assertTrue(same(part, tupled(part)), (function, arguments))
+
+    def test_what_is_returned_may_be_passed_in_again(self):
+        known = everything()
+        shelf = known["worn"](SPRING, 4)
+        self.assertEqual(known["all_standing"](shelf, 0), known["all_standing"](SPRING, 4))
+        answer = known["answer_of"](SPRING, known["just_wish"](known["lock_at"](RULES, 1)), 0)
+        self.assertIsNone(answer)
+        self.assertEqual(known["best_of"]((), known["all_standing"](SPRING, 4)), ())
+
+    def test_lists_come_where_several_results_are_told(self):
+        lists = {"from_best", "all_locks", "locks_from_best", "all_that_meet", "all_standing", "answers_on",
+                 "worn_along"}
+        for function, parameters, arguments in all_calls():
+            kind, found = outcome(function, *arguments)[:2]
+            if kind == "gave":
+                self.assertEqual(isinstance(found, list), function.__name__ in lists, function)
+
+
+if __name__ == "__main__":
+    unittest.main()

@@ -1,0 +1,149 @@
+"""What a reader of the code alone can check of ../shared/LANGUAGE.md, rule by rule."""
+
+import ast
+import builtins
+import pathlib
+import re
+import unittest
+
+FOLDER = pathlib.Path(__file__).resolve().parent.parent / "lockstold"
+FILES = sorted(path for path in FOLDER.rglob("*.py"))
+
+STATEMENTS = (ast.Assign, ast.AugAssign, ast.If, ast.While, ast.For, ast.Return, ast.Break, ast.Continue, ast.Pass,
+              ast.Raise, ast.Assert, ast.Delete, ast.Try, ast.Expr, ast.FunctionDef, ast.ClassDef, ast.ImportFrom)
+BUILTINS = set("""len range enumerate zip min max sum abs sorted reversed int str bool list tuple dict set isinstance ord
+    repr any all divmod ValueError LookupError KeyError""".split())
+METHODS = set("""append count endswith extend find get index insert isalpha isdigit items join keys pop replace setdefault
+    split splitlines startswith strip values __init__""".split())
+WORDS = set("""type typing enum Enum Flag Generic Protocol ABC namedtuple dataclass overload contextmanager register mro
+    elements open input law""".split())
+
+
+def trees():
+    for path in FILES:
+        yield path.name, ast.parse(path.read_text(encoding="utf-8"))
+
+
+def nodes(*kinds):
+    for name, tree in trees():
+        for node in ast.walk(tree):
+            if isinstance(node, kinds):
+                yield name, node
+
+
+def with_parents(tree):
+    for parent in ast.walk(tree):
+        for child in ast.iter_child_nodes(parent):
+            yield parent, child
+
+
+def given_names(function):
+    """Parameters and local variables of a function, those of comprehensions and lambdas in it too."""
+    found = {own.arg for own in ast.walk(function) if isinstance(own, ast.arg)}
+    return found | {own.id for own in ast.walk(function) if isinstance(own, ast.Name) and isinstance(own.ctx, ast.Store)}
+
+
+class LanguageTest(unittest.TestCase):
+
+    def test_l1_l10_l14_files_and_sizes(self):
+        for path in FOLDER.rglob("*"):
+            if "__pycache__" not in path.parts:
+                self.assertRegex(path.name, r"\A[a-z_][a-z0-9_]*\.py\Z")
+        for path in FILES:
+            text = path.read_text(encoding="utf-8")
+            self.assertIsNone(re.search("[^ -~\n]", text), path.name)
+            self.assertLessEqual(len(text.splitlines()), 399, path.name)
+            self.assertLessEqual(max([len(line) for line in text.splitlines()]), 120, path.name)
+        for name, node in nodes(ast.FunctionDef):
+            self.assertLessEqual(node.end_lineno - node.lineno + 1, 40, (name, node.name))
+
+    def test_l2_l16_imports_name_the_file_that_defines(self):
+        defined = {}
+        for name, tree in trees():
+            defined["lockstold." + name[:-3]] = {own.name for own in tree.body
+                                                 if isinstance(own, (ast.FunctionDef, ast.ClassDef))}
+        for name, node in nodes(ast.Import, ast.ImportFrom):
+            self.assertIsInstance(node, ast.ImportFrom, name)
+            self.assertEqual(node.level, 0)
+            for own in node.names:
+                self.assertIn(own.name, defined[node.module], name)
+                self.assertIsNone(own.asname)
+
+    def test_l3_module_level(self):
+        for name, tree in trees():
+            self.assertIsNotNone(ast.get_docstring(tree), name)
+            for node in tree.body[1:]:
+                self.assertIsInstance(node, (ast.ImportFrom, ast.FunctionDef, ast.ClassDef, ast.Assign), name)
+                if isinstance(node, ast.Assign):
+                    ast.literal_eval(node.value)
+
+    def test_l4_no_decorators_no_defaults(self):
+        for name, node in nodes(ast.FunctionDef, ast.ClassDef):
+            self.assertEqual(node.decorator_list, [], name)
+        for name, node in nodes(ast.arguments):
+            self.assertEqual((node.defaults, node.kw_defaults, node.vararg, node.kwarg), ([], [], None, None), name)
+
+    def test_l6_statements(self):
+        for name, node in nodes(ast.stmt):
+            self.assertIsInstance(node, STATEMENTS, (name, node.lineno))
+
+    def test_l7_values(self):
+        for name, node in nodes(ast.Constant):
+            self.assertFalse(isinstance(node.value, (float, complex)), name)
+        self.assertEqual(list(nodes(ast.Div, ast.GeneratorExp, ast.Yield, ast.YieldFrom, ast.Await, ast.MatMult)), [])
+
+    def test_l8_l15_names_of_builtins(self):
+        every = set(vars(builtins))
+        for name, tree in trees():
+            known = {own.name for own in tree.body if isinstance(own, (ast.FunctionDef, ast.ClassDef))}
+            imported = {own.name for node in tree.body if isinstance(node, ast.ImportFrom) for own in node.names}
+            self.assertFalse((known | imported) & every, name)
+            for function in [own for own in ast.walk(tree) if isinstance(own, ast.FunctionDef)]:
+                classes = {own.name for own in tree.body if isinstance(own, ast.ClassDef)}
+                self.assertFalse(given_names(function) & (every | imported | classes), (name, function.name))
+                used = {own.id for own in ast.walk(function) if isinstance(own, ast.Name)} & every
+                self.assertTrue(used <= BUILTINS, (name, function.name, used))
+
+    def test_l12_l17_words(self):
+        for name, tree in trees():
+            for node in ast.walk(tree):
+                own = {getattr(node, key, None) for key in ("id", "arg", "attr", "name")}
+                own = {word for word in own if isinstance(word, str)} - {"__init__"}
+                self.assertFalse(own & WORDS, name)
+                self.assertFalse({word for word in own if word.startswith("__")}, name)
+
+    def test_l19_raise_makes_its_error(self):
+        for name, node in nodes(ast.Raise):
+            self.assertIsInstance(node.exc, ast.Call, (name, node.lineno))
+
+    def test_l20_is_with_none_alone(self):
+        for name, node in nodes(ast.Compare):
+            for sign, right in zip(node.ops, node.comparators):
+                if isinstance(sign, (ast.Is, ast.IsNot)):
+                    self.assertIsInstance(right, ast.Constant, (name, node.lineno))
+                    self.assertIn(right.value, (None, True, False))
+
+    def test_l24_sets_are_not_iterated(self):
+        for name, tree in trees():
+            for parent, child in with_parents(tree):
+                made = isinstance(child, ast.Call) and isinstance(child.func, ast.Name) and child.func.id == "set"
+                if made or isinstance(child, (ast.SetComp, ast.Set)):
+                    if isinstance(parent, ast.BinOp):
+                        self.assertIsInstance(parent.op, (ast.BitXor, ast.BitAnd, ast.BitOr, ast.Sub))
+                        continue
+                    self.assertIsInstance(parent, ast.Call, (name, child.lineno))
+                    self.assertIn(parent.func.id, ("sorted", "len"), (name, child.lineno))
+
+    def test_l25_methods(self):
+        for name, node in nodes(ast.Call):
+            if isinstance(node.func, ast.Attribute):
+                self.assertIn(node.func.attr, METHODS, (name, node.lineno))
+
+    def test_l27_strings(self):
+        for name, node in nodes(ast.Constant):
+            if isinstance(node.value, str):
+                self.assertNotIn(chr(37), node.value, (name, node.lineno))
+
+
+if __name__ == "__main__":
+    unittest.main()
