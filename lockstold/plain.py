@@ -8,9 +8,13 @@ def frozen(value):
     return value
 
 
-def is_number_from(least, thing):
+def is_number(thing):
     # Python takes True and False for ints; the document does not.
-    return isinstance(thing, int) and not isinstance(thing, bool) and thing >= least
+    return isinstance(thing, int) and not isinstance(thing, bool)
+
+
+def is_number_from(least, thing):
+    return is_number(thing) and thing >= least
 
 
 def is_tuple_of(many, thing):
@@ -27,6 +31,23 @@ def is_set_from(least, thing):
     if not isinstance(thing, tuple) or thing == ():
         return False
     return all([is_number_from(least, own) for own in thing]) and ascends(thing)
+
+
+def is_number_set(thing):
+    """Whether thing is a set, maybe (), of numbers."""
+    return isinstance(thing, tuple) and all([is_number(own) for own in thing]) and ascends(thing)
+
+
+def is_rows_of(many, thing):
+    """Whether thing is a set, maybe (), of numbers of ROWS of a TELLING that has so many."""
+    return is_number_set(thing) and all([0 <= own < many for own in thing])
+
+
+def is_same(thing, wanted):
+    """Whether thing is wanted, which is made of tuples, numbers, strings and None: True is not 1."""
+    if isinstance(wanted, tuple):
+        return is_tuple_of(len(wanted), thing) and all([is_same(own, part) for own, part in zip(thing, wanted)])
+    return not isinstance(thing, bool) and thing == wanted
 
 
 def part_of(name, state):

@@ -1,8 +1,9 @@
 """Which LOCKS stand on a SHELF on a DAY, and what it answers then."""
 
 from lockstold.errors import CanNot, NoPaper, TooMany
+from lockstold.footing import all_upright, choices_of, rules_on
 from lockstold.locks import names_in, state_of
-from lockstold.plain import frozen, is_there
+from lockstold.plain import frozen
 from lockstold.states import is_release
 from lockstold.wishes import best_that_meets
 
@@ -30,15 +31,10 @@ def is_why_falls(shelf, day, lock, thing):
 
 def all_standing(shelf, day):
     """The LOCKS that stand, ascending."""
-    rules = _rules_on(shelf, day)
-    choices = _choices(rules)
+    rules = rules_on(shelf, day)
+    choices = choices_of(rules)
     _check_many(choices)
-    barred = _barred(rules, choices)
-    found = [()]
-    for name in sorted(choices):
-        parts = [(name, state) for state in choices[name]]
-        found = [held + (part,) for held in found for part in parts if _goes_with(held, barred[part])]
-    return sorted([tuple([part for part in held if part[1] > 0]) for held in found])
+    return all_upright(rules, choices)
 
 
 def how_many_stand(shelf, day):
@@ -81,7 +77,7 @@ def needed_by(shelf, day, release):
 
 def _falls(shelf, day, lock):
     """All FALLS of lock on shelf on day."""
-    rules = _rules_on(shelf, day)
+    rules = rules_on(shelf, day)
     found = []
     for release in frozen(lock):
         if release not in rules:
@@ -92,40 +88,12 @@ def _falls(shelf, day, lock):
     return found
 
 
-def _rules_on(shelf, day):
-    """The RULES of each RELEASE that is there on day."""
-    return {own[0]: own[1] for own in frozen(shelf) if is_there(own, day)}
-
-
-def _choices(rules):
-    """The STATES of each NAME: of a NAME that RULES alone have, 0 alone."""
-    choices = {name: [0] for release in rules for name in [release[0]] + [pair[0] for pair in rules[release]]}
-    for name, version in rules:
-        choices[name].append(version)
-    return choices
-
-
 def _check_many(choices):
     many = 1
     for states in list(choices.values()):
         many = many * len(states)
     if many > MOST_LOCKS:
         raise TooMany()
-
-
-def _barred(rules, choices):
-    """For each NAME and STATE the others beside which it stands in no LOCK, by either's RULES."""
-    found = {(name, state): {} for name in choices for state in choices[name]}
-    for release in rules:
-        for name, lot in rules[release]:
-            for part in [(name, state) for state in choices[name] if state not in lot]:
-                found[release][part] = True
-                found[part][release] = True
-    return found
-
-
-def _goes_with(held, barred):
-    return not any([part in barred for part in held])
 
 
 def _standing_with(shelf, day, release):

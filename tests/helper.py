@@ -51,7 +51,63 @@ INTERFACE = {
         "parting_wish": ("one", "other", "day"), "is_parting_wish": ("one", "other", "day", "thing"),
         "days_alike": ("one", "other"), "parting_day": ("one", "other"), "worn_along": ("shelf",),
     },
+    "tellings": {
+        "is_row": ("thing",), "is_telling": ("thing",), "names_told": ("telling",), "releases_told": ("telling",),
+        "told_by": ("telling", "release"), "first_told": ("telling", "release"), "last_told": ("telling", "release"),
+        "pairs_told": ("telling",), "rows_with": ("telling", "pair"), "row_of": ("shelf", "day", "wish"),
+        "telling_of": ("shelf", "asked"), "tells": ("shelf", "telling"), "first_untold": ("shelf", "telling"),
+        "on_days": ("telling", "since", "until"), "merged": ("one", "other"), "each_once": ("telling",),
+    },
+    "woven": {
+        "is_woven": ("telling", "shop", "day", "lock"), "lenders": ("telling", "shop", "day", "lock"),
+        "is_lenders": ("telling", "shop", "day", "lock", "thing"), "rows_lent": ("told",),
+        "gap": ("telling", "shop", "day", "lock"), "is_gap": ("telling", "shop", "day", "lock", "thing"),
+        "all_woven": ("telling", "shop", "day"), "new_woven": ("telling", "shop", "day"),
+        "woven_more": ("telling", "more", "shop", "day"), "best_woven": ("telling", "shop", "day", "wish"),
+        "woven_days": ("telling", "shop", "lock"),
+    },
+    "told": {
+        "has_shelf": ("telling", "shop"), "shops_for": ("telling",), "tight_shelf": ("telling", "shop"),
+        "is_tight_shelf": ("telling", "shop", "thing"), "against": ("telling", "shop"),
+        "is_against": ("telling", "shop", "thing"), "first_clash": ("telling", "shop"),
+        "must_have": ("telling", "shop"), "must_let": ("telling", "shop", "release"),
+        "may_forbid": ("telling", "shop", "release", "name", "state"),
+        "may_let": ("telling", "shop", "release", "name", "state"),
+        "why_not_let": ("telling", "shop", "release", "name", "state"),
+        "is_why_not_let": ("telling", "shop", "release", "name", "state", "thing"),
+    },
+    "fewrows": {
+        "is_bad": ("telling", "shop", "rows"), "is_least_bad": ("telling", "shop", "thing"),
+        "all_least_bad": ("telling", "shop"), "least_bad": ("telling", "shop"), "bad_with": ("telling", "shop", "row"),
+        "hurts": ("telling", "shop", "row"), "shrunk": ("telling", "shop", "rows"), "freed_by": ("telling", "shop"),
+        "rows_of": ("telling", "shop", "found"), "row_bound": ("many", "shop"),
+    },
+    "middles": {
+        "middle": ("one", "other", "third"), "are_closed": ("locks",), "open_triple": ("locks",),
+        "is_open_triple": ("locks", "thing"), "closed_up": ("locks",), "common_lock": ("locks",),
+        "woven_beyond": ("telling", "shop", "day"), "told_whole": ("telling",),
+    },
+    "tomorrow": {
+        "can_answer": ("telling", "shop", "day", "wish", "given"),
+        "why_not_answer": ("telling", "shop", "day", "wish", "given"),
+        "is_why_not_answer": ("telling", "shop", "day", "wish", "given", "thing"),
+        "possible_answers": ("telling", "shop", "day", "wish"),
+        "possible_states": ("telling", "shop", "day", "wish", "name"),
+        "sure_states": ("telling", "shop", "day", "wish"), "sure_answer": ("telling", "shop", "day", "wish"),
+        "parting_wishes": ("telling", "shop", "day", "wishes"), "best_question": ("telling", "shop", "day", "wishes"),
+        "is_settled": ("telling", "shop", "day", "wishes"), "told_next": ("telling", "shop", "day", "wish", "given"),
+        "narrowed_by": ("telling", "shop", "day", "wish", "given", "later"),
+    },
+    "liars": {
+        "fewest_out": ("telling", "shop"), "all_fewest_out": ("telling", "shop"),
+        "is_leaving": ("telling", "shop", "thing"), "suspects": ("telling", "shop"), "blamed": ("telling", "shop"),
+        "trusted": ("telling", "shop"), "hit_by": ("telling", "shop", "number"), "out_for": ("telling", "shop", "kept"),
+        "papers_apart": ("telling", "shop"), "is_papers_apart": ("telling", "shop", "thing"),
+        "cheapest_out": ("telling", "shop", "doubts"),
+    },
 }
+
+SHOPS = ("still", "growing", "short")
 
 # Each error class with its direct base class and the values that its constructor takes.
 ERRORS = {
@@ -201,6 +257,23 @@ def shelf_ok(thing):
     return releases == sorted(set(releases))
 
 
+def row_ok(thing):
+    if type(thing) is not tuple or len(thing) != 3 or not number_ok(thing[0], 0) or not wish_ok(thing[1]):
+        return False
+    return thing[2] is None or lock_ok(thing[2])
+
+
+def telling_ok(thing):
+    return type(thing) is tuple and all(row_ok(own) for own in thing)
+
+
+def rows_ok(thing, many):
+    """Whether thing is a set, maybe (), of numbers of ROWS of a TELLING of so many."""
+    if type(thing) is not tuple or not all(number_ok(own, 0) and own < many for own in thing):
+        return False
+    return list(thing) == sorted(set(thing))
+
+
 # What stands, and what is better, straight from the words of [3].
 
 def plain_state(lock, name):
@@ -291,6 +364,100 @@ def plain_answer(shelf, wish, day):
     return plain_best(wish, [lock for lock in plain_standing(shelf, day) if plain_met(wish, lock)])
 
 
+# What is woven, and which ROWS some SHELF tells, straight from the words of [3].
+
+def plain_locks(telling):
+    """The told LOCKS, () for the answer None."""
+    return [row[2] or () for row in telling]
+
+
+def plain_names(telling):
+    return sorted({name for lock in plain_locks(telling) for name, _ in lock})
+
+
+def told_versions(telling):
+    found = {}
+    for lock in plain_locks(telling):
+        for name, version in lock:
+            found.setdefault(name, set()).add(version)
+    return found
+
+
+def plain_woven(telling, shop, day, lock):
+    locks, names = plain_locks(telling), plain_names(telling)
+    for release in lock:
+        days = [row[0] for row, own in zip(telling, locks) if release in own]
+        if not days or (shop != "still" and min(days) > day) or (shop == "short" and max(days) < day):
+            return False
+        for name in names:
+            state = plain_state(lock, name)
+            if name != release[0] and not any(release in own and plain_state(own, name) == state for own in locks):
+                return False
+    return True
+
+
+def plain_all_woven(telling, shop, day):
+    return sorted(lock for lock in locks_over(told_versions(telling)) if plain_woven(telling, shop, day, lock))
+
+
+def plain_unmet(row):
+    return row[2] is not None and not plain_met(row[1], row[2])
+
+
+def plain_beats(lock, row):
+    """Whether lock meets the WISH of row, and is better than its answer."""
+    return plain_met(row[1], lock) and (row[2] is None or plain_better(row[1], lock, row[2]))
+
+
+def plain_has(telling, shop):
+    """Whether there is no AGAINST."""
+    for row in telling:
+        if plain_unmet(row) or any(plain_beats(lock, row) for lock in plain_all_woven(telling, shop, row[0])):
+            return False
+    return True
+
+
+def plain_tight(telling, shop):
+    """The TIGHT SHELF, whether it tells or not."""
+    found, locks = [], plain_locks(telling)
+    for release in sorted({own for lock in locks for own in lock}):
+        days = [row[0] for row, own in zip(telling, locks) if release in own]
+        rules = tuple((name, tuple(sorted({plain_state(own, name) for own in locks if release in own})))
+                      for name in plain_names(telling) if name != release[0])
+        first, last = (0 if shop == "still" else min(days)), (max(days) if shop == "short" else None)
+        found.append((release, rules, first, last))
+    return tuple(found)
+
+
+def against_ok(telling, shop, thing):
+    """Whether thing is an AGAINST, by the words of [3]."""
+    if type(thing) is not tuple or len(thing) < 2 or not number_ok(thing[1], 0) or thing[1] >= len(telling):
+        return False
+    row = telling[thing[1]]
+    if same(thing[0], "unmet"):
+        return len(thing) == 2 and plain_unmet(row)
+    if not same(thing[0], "better") or len(thing) != 4:
+        return False
+    if not lock_ok(thing[2]) or not rows_ok(thing[3], len(telling)) or not plain_beats(thing[2], row):
+        return False
+    return plain_woven([telling[at] for at in thing[3]], shop, row[0], thing[2])
+
+
+def all_sets(many):
+    """All sets of so many numbers of ROWS."""
+    return [own for size in range(many + 1) for own in itertools.combinations(range(many), size)]
+
+
+def least_of(sets):
+    """Those of sets of which no lesser part is among them, ascending."""
+    return sorted(own for own in sets if not any(set(other) < set(own) for other in sets))
+
+
+def plain_bad(telling, shop):
+    """All bad sets of ROWS."""
+    return [own for own in all_sets(len(telling)) if not plain_has([telling[at] for at in own], shop)]
+
+
 def days_that_matter(*shelves):
     """Each DAY at which anything changes, those beside it, and one far out."""
     found = {0, 10 ** 6, 10 ** 9}
@@ -321,7 +488,7 @@ class Dice:
         return tuple((name, self.some(range(most + 1), 1)) for name in self.some(names))
 
     def wish(self, names=("a", "b", "c"), most=3):
-        own = list(self.some(names))
+        own = list(self.some(names)) if isinstance(names, tuple) else list(names)
         self.rolls.shuffle(own)
         return tuple((name, self.some(range(1, most + 1), 1)) for name in own)
 
@@ -336,6 +503,32 @@ class Dice:
                     found.append(((name, version), self.rules_for(name, names, most, strange), first, last))
         return tuple(found)
 
+    def telling(self, names=("a", "b", "c"), most=2, rows=4, days=3, lies=0.2, shop=None):
+        """What a made-up SHELF answers, with some ROWS that lie."""
+        shelf, found = self.strict_shelf(names, most, days, shop), []
+        for _ in range(self.rolls.randint(rows // 2, rows)):
+            many = min(self.pick((0, 1, 1, 1, 2, 2, 3)), len(names))
+            day, wish = self.rolls.randint(0, days), self.wish(self.rolls.sample(names, many), most)
+            answer = plain_answer(shelf, wish, day)
+            if self.rolls.random() < lies:
+                answer = self.pick((None, self.lock(names, most), just_like(self, wish, answer),
+                                    just_like(self, wish, answer)))
+            found.append((day, wish, answer))
+        return tuple(found)
+
+    def strict_shelf(self, names, most, days, shop):
+        """A SHELF, of this SHOP if one is told, whose RELEASES often need others."""
+        found = []
+        for name in names:
+            for version in range(1, most + 1):
+                if self.rolls.random() < 0.85:
+                    rules = tuple((other, self.some(range(self.pick((0, int(other > name))), most + 1), 1))
+                                  for other in sorted(names) if other != name and self.rolls.random() < 0.6)
+                    first = 0 if shop == "still" else self.pick((0, 0, self.rolls.randint(0, days)))
+                    last = None if shop in ("still", "growing") else self.pick((None, self.rolls.randint(first, days)))
+                    found.append(((name, version), rules, first, last))
+        return tuple(found)
+
     def rules_for(self, own, names, most, strange):
         found = []
         for name in sorted(names):
@@ -344,6 +537,13 @@ class Dice:
         if strange and self.rolls.random() < 0.1:
             found.append((strange[0], self.pick(((0,), (1,), (0, 1)))))
         return tuple(sorted(found))
+
+
+def just_like(dice, wish, answer):
+    """A LOCK that meets wish, much like answer."""
+    states = dict(answer or ())
+    states.update({name: dice.pick(versions) for name, versions in wish})
+    return tuple(sorted(states.items()))
 
 
 def outcome(function, *given, **named):

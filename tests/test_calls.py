@@ -19,6 +19,18 @@ RELEASES = [("app", 1), ("app", 2), ("lib", 2), ("zoo", 1)]
 SHELVES = [(), SPRING, AUTUMN, SPRING[:2], WIDE]
 LOCKS = [(), (("app", 1),), (("app", 1), ("lib", 1)), (("app", 2), ("lib", 2)), (("zoo", 1),)]
 
+AB, BC, AC = (("a", 1), ("b", 1)), (("b", 1), ("c", 1)), (("a", 1), ("c", 1))
+THREE = ((2, (("a", (1,)), ("b", (1,))), AB), (4, (("b", (1,)), ("c", (1,))), BC), (6, (("a", (1,)), ("c", (1,))), AC))
+FOUR = ((1, (("app", (1,)),), (("app", 1),)), (1, (("lib", (1,)),), (("lib", 1),)),
+        (2, (("app", (1,)), ("lib", (1,))), LOCKS[2]), (1, (("app", (1,)), ("lib", (1,))), None))
+SHOWN = ((0, (("app", (1, 2)),), (("app", 2), ("lib", 1))), (0, (("lib", (1, 2)),), (("lib", 2),)),
+         (0, (("app", (1,)), ("lib", (1, 2))), (("app", 1), ("lib", 2))))
+TELLINGS = [(), THREE, FOUR, SHOWN, FOUR[:3]]
+SHOPS = ["still", "growing", "short"]
+LENDERS = (((("a", 1), (0, 2)), (("c", 1), (1, 2))), (((("a", 1), "b", 0), 2),))
+OF_SHELVES = {"telling": TELLINGS, "shop": SHOPS, "day": [0, 2, 5]}
+ANY_LIB = (("lib", (1, 2)),)
+
 # Samples for each parameter, by the file and the name of it.
 SAMPLES = {
     "states": {"rules": [(), RULES], "name": ["a", "c"], "state": [0, 1, 2], "lot": [(0, 1, 2), (2,)],
@@ -37,12 +49,41 @@ SAMPLES = {
                  "other": RELEASES, "wish": [(), (("lib", (1, 2)), ("app", (1, 2)))],
                  "wishes": [(), ((), (("app", (2,)),), (("zoo", (1,)),))]},
     "worn": {"shelf": SHELVES, "one": SHELVES, "other": SHELVES, "day": [0, 4, 11]},
+    "tellings": {**OF_SHELVES, "release": [("a", 1), ("app", 2), ("z", 1)], "shelf": SHELVES, "one": TELLINGS,
+                 "pair": [(("a", 1), "c", 1), (("b", 1), "d", 0), (("app", 2), "lib", 1)], "other": TELLINGS,
+                 "wish": [(), ANY_LIB, (("app", (1, 2)), ("lib", (1,)))], "since": [0, 2, 4], "until": [1, 4, 9],
+                 "asked": [(), ((0, ANY_LIB), (4, (("app", (1, 2)),)), (4, ()))]},
+    "woven": {**OF_SHELVES, "lock": [(), AB, AC, AB + (("c", 1),), (("lib", 2),)], "told": [((), ()), LENDERS],
+              "more": TELLINGS, "wish": [(), (("c", (1,)), ("b", (1,))), ANY_LIB]},
+    "told": {**OF_SHELVES, "telling": TELLINGS + [((0, (), 1),)], "shop": SHOPS + ["big"], "name": ["lib", "app", "new", "A"],
+             "release": [("app", 2), ("lib", 1), ("z", 1), ("z", 0)], "state": [0, 1, 2, -1]},
+    "fewrows": {**OF_SHELVES, "telling": TELLINGS + [THREE * 4], "rows": [(), (0, 1), (0, 1, 2, 3), (0, 9), (1, 0)],
+                "row": [0, 2, 3, 9], "many": [0, 1, 2, 5, -1],
+                "found": [("unmet", 0), ("better", 3, LOCKS[2], (0, 1, 2)), ("better", 3, LOCKS[2], (2,))]},
+    "middles": {**OF_SHELVES, "one": [(), AB, LOCKS[3]], "other": [(), BC], "third": [AC, LOCKS[2], ()],
+                "locks": [(), (AB,), (AB, BC, AC), (AB, (), AB, BC), tuple((("a", own),) for own in range(1, 70))]},
+    "tomorrow": {**OF_SHELVES, "telling": TELLINGS + [((0, (), ()), (0, (("a", (1,)),), None)), (FOUR[0],) * 3],
+                 "wish": [(), ANY_LIB, (("b", (1,)),)], "given": [None, (), LOCKS[2], (("lib", 2),)],
+                 "later": [(), ANY_LIB], "name": ["lib", "b"], "wishes": [((),), (ANY_LIB, (("c", (1,)),), ANY_LIB)]},
+    "liars": {**OF_SHELVES, "telling": TELLINGS + [FOUR * 2, THREE * 4], "number": [0, 3, 9], "kept": [(), (0,), (2, 3), (0, 9)],
+              "doubts": [(), (1, 2, 3), (3, 1, 1, 2)]},
 }
+
+
+# Calls that are rarely among so many samples.
+MORE = {"why_not_let": [(SHOWN, own, ("app", 2), "lib", 0) for own in SHOPS],
+        "is_why_not_let": [(SHOWN, own, ("app", 2), "lib", 0, (0, (("app", 2),))) for own in SHOPS],
+        "may_let": [(SHOWN, "still", ("app", 2), "lib", own) for own in (0, 1, 2)],
+        "narrowed_by": [(SHOWN, "still", 0, (("lib", (1,)),), (("lib", 1),), (("lib", (1,)),))],
+        "lenders": [(THREE, "short", 5, AC), (THREE, "growing", 6, AC)],
+        "cheapest_out": [(FOUR, "still", (3, 1, 1, 2))]}
 
 
 def told_things(file, parameter, values):
     if parameter == "thing":
-        return THINGS + [("lacking", ("app", 1)), ("barred", ("app", 1), "lib"), (("app", (1,)),), (("app", 1),)]
+        return THINGS + [("lacking", ("app", 1)), ("barred", ("app", 1), "lib"), (("app", (1,)),), (("app", 1),),
+                         THREE, THREE[0], LENDERS, ("apart", ("a", 1), "b"), ("never", ("lib", 2)), (AB, BC, ()),
+                         ("better", 3, LOCKS[2], (0, 1, 2)), ("better", 3, LOCKS[2], (2,)), (3,), (2, 3), ((2, 3),), (0, ())]
     return values[file][parameter]
 
 
@@ -55,7 +96,9 @@ def all_calls():
             for parameter in parameters:
                 given = [own + (value,) for own in given for value in told_things(file, parameter, SAMPLES)]
             dice = Dice(name)
-            for own in given if len(given) <= 60 else dice.rolls.sample(given, 60):
+            for own in given if len(given) <= 90 else dice.rolls.sample(given, 90):
+                yield known[name], parameters, own
+            for own in MORE.get(name, []):
                 yield known[name], parameters, own
 
 
@@ -120,14 +163,24 @@ class CallsTest(unittest.TestCase):
         answer = known["answer_of"](SPRING, known["just_wish"](known["lock_at"](RULES, 1)), 0)
         self.assertIsNone(answer)
         self.assertEqual(known["best_of"]((), known["all_standing"](SPRING, 4)), ())
+        telling = known["telling_of"](SPRING, ((0, (("app", (1, 2)),)), (4, ANY_LIB)))
+        self.assertIs(known["tells"](known["tight_shelf"](telling, "short"), telling), True)
+        self.assertEqual(known["rows_of"](FOUR, "still", known["against"](FOUR, "still")), (0, 1, 2, 3))
+        self.assertIs(known["are_closed"](known["closed_up"](known["all_woven"](THREE, "still", 0))), True)
+        more = known["told_next"](SHOWN, "still", 0, (), ())
+        self.assertEqual(known["possible_answers"](more, "still", 0, ()), [()])
 
     def test_lists_come_where_several_results_are_told(self):
         lists = {"from_best", "all_locks", "locks_from_best", "all_that_meet", "all_standing", "answers_on",
-                 "worn_along"}
+                 "worn_along", "all_woven", "new_woven", "woven_more", "all_least_bad", "possible_answers", "narrowed_by",
+                 "all_fewest_out", "hit_by"}
+        seen = set()
         for function, parameters, arguments in all_calls():
             kind, found = outcome(function, *arguments)[:2]
             if kind == "gave":
                 self.assertEqual(isinstance(found, list), function.__name__ in lists, function)
+                seen.add(function.__name__)
+        self.assertEqual(seen, {name for functions in INTERFACE.values() for name in functions})
 
 
 if __name__ == "__main__":

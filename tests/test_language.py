@@ -13,7 +13,7 @@ STATEMENTS = (ast.Assign, ast.AugAssign, ast.If, ast.While, ast.For, ast.Return,
               ast.Raise, ast.Assert, ast.Delete, ast.Try, ast.Expr, ast.FunctionDef, ast.ClassDef, ast.ImportFrom)
 BUILTINS = set("""len range enumerate zip min max sum abs sorted reversed int str bool list tuple dict set isinstance ord
     repr any all divmod ValueError LookupError KeyError""".split())
-METHODS = set("""append count endswith extend find get index insert isalpha isdigit items join keys pop replace setdefault
+METHODS = set("""add append bit_length count discard endswith extend find get index insert isalpha isdigit items join keys pop replace setdefault
     split splitlines startswith strip values __init__""".split())
 WORDS = set("""type typing enum Enum Flag Generic Protocol ABC namedtuple dataclass overload contextmanager register mro
     elements open input law""".split())
@@ -43,6 +43,27 @@ def given_names(function):
     return found | {own.id for own in ast.walk(function) if isinstance(own, ast.Name) and isinstance(own.ctx, ast.Store)}
 
 
+def stored_sets(function):
+    """The names to which function assigns a set."""
+    for node in ast.walk(function):
+        if isinstance(node, ast.Assign):
+            own = node.value
+            made = isinstance(own, ast.Call) and isinstance(own.func, ast.Name) and own.func.id == "set"
+            if made or isinstance(own, (ast.SetComp, ast.Set)):
+                yield from [target.id for target in node.targets]
+
+
+def is_fit_use(parent, child):
+    """Whether L24 lets a stored set stand there: in `in`, len, sorted, add, discard, or as a condition."""
+    if isinstance(parent, ast.Assign):
+        return child in parent.targets
+    if isinstance(parent, ast.Compare):
+        return isinstance(parent.ops[0], (ast.In, ast.NotIn)) and child in parent.comparators
+    if isinstance(parent, ast.Call):
+        return isinstance(parent.func, ast.Name) and parent.func.id in ("len", "sorted")
+    return isinstance(parent, ast.Attribute) and parent.attr in ("add", "discard")
+
+
 class LanguageTest(unittest.TestCase):
 
     def test_l1_l10_l14_files_and_sizes(self):
@@ -60,8 +81,9 @@ class LanguageTest(unittest.TestCase):
     def test_l2_l16_imports_name_the_file_that_defines(self):
         defined = {}
         for name, tree in trees():
-            defined["lockstold." + name[:-3]] = {own.name for own in tree.body
-                                                 if isinstance(own, (ast.FunctionDef, ast.ClassDef))}
+            own_names = {own.name for own in tree.body if isinstance(own, (ast.FunctionDef, ast.ClassDef))}
+            given = [own.targets for own in tree.body if isinstance(own, ast.Assign)]
+            defined["lockstold." + name[:-3]] = own_names | {one.id for targets in given for one in targets}
         for name, node in nodes(ast.Import, ast.ImportFrom):
             self.assertIsInstance(node, ast.ImportFrom, name)
             self.assertEqual(node.level, 0)
@@ -93,7 +115,8 @@ class LanguageTest(unittest.TestCase):
         self.assertEqual(list(nodes(ast.Div, ast.GeneratorExp, ast.Yield, ast.YieldFrom, ast.Await, ast.MatMult)), [])
 
     def test_l8_l15_names_of_builtins(self):
-        every = set(vars(builtins))
+        # A doctest that was run before leaves its last value there as _, which is a fit name.
+        every = set(vars(builtins)) - {"_"}
         for name, tree in trees():
             known = {own.name for own in tree.body if isinstance(own, (ast.FunctionDef, ast.ClassDef))}
             imported = {own.name for node in tree.body if isinstance(node, ast.ImportFrom) for own in node.names}
@@ -123,16 +146,35 @@ class LanguageTest(unittest.TestCase):
                     self.assertIsInstance(right, ast.Constant, (name, node.lineno))
                     self.assertIn(right.value, (None, True, False))
 
+    def test_l12_what_is_called_nothing_is_not_read(self):
+        for name, node in nodes(ast.Name):
+            if node.id == "_":
+                self.assertIsInstance(node.ctx, ast.Store, (name, node.lineno))
+
     def test_l24_sets_are_not_iterated(self):
         for name, tree in trees():
             for parent, child in with_parents(tree):
                 made = isinstance(child, ast.Call) and isinstance(child.func, ast.Name) and child.func.id == "set"
                 if made or isinstance(child, (ast.SetComp, ast.Set)):
+                    if isinstance(parent, ast.Assign):
+                        continue
                     if isinstance(parent, ast.BinOp):
                         self.assertIsInstance(parent.op, (ast.BitXor, ast.BitAnd, ast.BitOr, ast.Sub))
                         continue
                     self.assertIsInstance(parent, ast.Call, (name, child.lineno))
                     self.assertIn(parent.func.id, ("sorted", "len"), (name, child.lineno))
+
+    def test_l24_stored_sets(self):
+        many = 0
+        for name, function in nodes(ast.FunctionDef):
+            for target in stored_sets(function):
+                many += 1
+                uses = [(parent, child) for parent, child in with_parents(function)
+                        if isinstance(child, ast.Name) and child.id == target]
+                self.assertEqual([type(child.ctx) for _, child in uses].count(ast.Store), 1, (name, target))
+                for parent, child in uses:
+                    self.assertTrue(is_fit_use(parent, child), (name, target, child.lineno))
+        self.assertGreater(many, 0)
 
     def test_l25_methods(self):
         for name, node in nodes(ast.Call):

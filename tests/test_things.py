@@ -8,6 +8,7 @@ from lockstold.locks import is_lock
 from lockstold.shelves import is_shelf
 from lockstold.standing import is_why_falls
 from lockstold.states import is_lot, is_name, is_release, is_rules
+from lockstold.tellings import is_row, is_telling
 from lockstold.wishes import is_wish
 from lockstold.worn import is_parting_wish, is_worn, told_by_wish
 
@@ -56,6 +57,15 @@ class ThingsTest(unittest.TestCase):
 
     def test_shelves(self):
         self.check(is_shelf, helper.shelf_ok, [(), SHELF, SHELF[:1], ((("a", WIDE), (), WIDE, WIDE + 1),)])
+
+    def test_rows(self):
+        wish, lock = (("gui", (1, 2)), ("core", (3,))), (("core", 3), ("gui", WIDE))
+        self.check(is_row, helper.row_ok, [(0, (), ()), (WIDE, wish, None), (3, wish, lock), (3, (), lock)])
+
+    def test_tellings(self):
+        rows = (0, (), None), (7, (("b", (1,)), ("a", (2, WIDE))), (("a", 2), ("b", 1))), (7, (), ())
+        self.check(is_telling, helper.telling_ok, [(), rows, rows[1:2], rows[::-1], rows * 9])
+        self.check(is_telling, helper.telling_ok, [Dice(2).telling(rows=3)])
 
     def test_made_up_shelves(self):
         dice = Dice(1)

@@ -1,0 +1,122 @@
+"""What some ROWS of a TELLING weave, the ROWS told by a number: the bit of each of them is set."""
+
+from lockstold.locks import pairs_of
+from lockstold.plain import frozen
+from lockstold.search import all_held, first_held, lock_of, steps_for
+from lockstold.wishes import is_met
+
+
+class Loom:
+    """What the ROWS of a TELLING tell, kept for asking it of many sets of them, by one SHOP."""
+
+    def __init__(self, telling, shop):
+        self.rows = frozen(telling)
+        self.kind = shop
+        self.having = _bits_having(self.rows)
+        self.naming = _bits_naming(self.having)
+        self.lending = _bits_lending(self.rows, sorted(self.naming))
+        self.plans = [plan_for(self, day, wish) for day, wish, _ in self.rows]
+
+
+def plan_for(loom, day, wish):
+    """The steps by which LOCKS that meet wish are woven, and the ends of each RELEASE on day."""
+    spans = _spans(loom.rows, loom.kind, day)
+    ends = {own: [loom.having[own] & span for span in spans] for own in loom.having}
+    choices = {name: [0] for name in loom.naming}
+    for name, version in ends:
+        choices[name].append(version)
+    return steps_for(wish, choices), ends
+
+
+def all_bits(loom):
+    return (1 << len(loom.rows)) - 1
+
+
+def best_by(loom, bits, plan):
+    """The best LOCK by plan that is woven of the ROWS of bits, None without."""
+    steps, ends = plan
+    held = first_held(steps, lambda ahead, part: _goes(loom, bits, ends, ahead, part))
+    return None if held is None else lock_of(held)
+
+
+def all_by(loom, bits, plan):
+    """All LOCKS by plan that are woven of the ROWS of bits, ascending."""
+    steps, ends = plan
+    return sorted([lock_of(held) for held in all_held(steps, lambda ahead, part: _goes(loom, bits, ends, ahead, part))])
+
+
+def first_lost(loom, bits):
+    """The least number of a ROW of bits that is in an AGAINST of the ROWS of bits as its own, None without."""
+    for at in range(len(loom.rows)):
+        if bits >> at & 1 and _is_lost(loom, bits, at):
+            return at
+    return None
+
+
+def can_be_told(telling, shop):
+    """Whether some SHELF of this SHOP tells telling."""
+    loom = Loom(telling, shop)
+    return first_lost(loom, all_bits(loom)) is None
+
+
+def _is_lost(loom, bits, at):
+    _, wish, answer = loom.rows[at]
+    if answer is not None and not is_met(wish, answer):
+        return True
+    # An answer that meets its WISH is woven itself: what is better is the best one then.
+    return best_by(loom, bits, loom.plans[at]) != answer
+
+
+def _bits_having(rows):
+    """For each told RELEASE the ROWS that have it."""
+    found = {}
+    for at, (_, _, answer) in enumerate(rows):
+        for release in answer or ():
+            found[release] = found.get(release, 0) | 1 << at
+    return found
+
+
+def _bits_naming(having):
+    """For each told NAME the ROWS that tell it."""
+    found = {}
+    for name, version in having:
+        found[name] = found.get(name, 0) | having[(name, version)]
+    return found
+
+
+def _bits_lending(rows, names):
+    """For each PAIR of these NAMES that told LOCKS have the ROWS that have it."""
+    found = {}
+    for at, (_, _, answer) in enumerate(rows):
+        for pair in pairs_of(answer or (), names):
+            found[pair] = found.get(pair, 0) | 1 << at
+    return found
+
+
+def _spans(rows, shop, day):
+    """Sets of ROWS, of each of which one has to have a RELEASE for it to be there on day."""
+    if shop == "still":
+        return [(1 << len(rows)) - 1]
+    ahead, behind = 0, 0
+    for at, row in enumerate(rows):
+        ahead = ahead | (1 << at if row[0] <= day else 0)
+        behind = behind | (1 << at if row[0] >= day else 0)
+    return [ahead] if shop == "growing" else [ahead, behind]
+
+
+def _goes(loom, bits, ends, held, part):
+    """Whether part can be woven of the ROWS of bits, and with each part of held."""
+    if part[1] > 0 and not all([own & bits for own in ends[part]]):
+        return False
+    for other in held:
+        if not _is_lent(loom, bits, part, other) or not _is_lent(loom, bits, other, part):
+            return False
+    return True
+
+
+def _is_lent(loom, bits, part, other):
+    """Whether a ROW of bits has the PAIR of part, if it is a RELEASE, and other."""
+    if part[1] == 0 or loom.lending.get((part, other[0], other[1]), 0) & bits:
+        return True
+    # Of a NAME that none of the ROWS tells nothing is asked.
+    return not loom.naming[other[0]] & bits

@@ -1,0 +1,43 @@
+"""Sets of ROWS, each told by the number that has the bit of each ROW set, and which of them are bad."""
+
+from lockstold.loom import first_lost
+
+
+def bits_of(numbers):
+    bits = 0
+    for number in numbers:
+        bits = bits | 1 << number
+    return bits
+
+
+def rows_of_bits(bits):
+    """The set of the numbers of ROWS whose bits are set, ascending."""
+    return tuple([at for at in range(bits.bit_length()) if bits >> at & 1])
+
+
+def lesser_by_one(bits):
+    """The sets with one ROW fewer, the one without the greatest ROW first."""
+    return [bits ^ 1 << at for at in range(bits.bit_length() - 1, -1, -1) if bits >> at & 1]
+
+
+def are_bad(loom, bits):
+    """Whether no SHELF tells the ROWS of bits alone."""
+    return first_lost(loom, bits) is not None
+
+
+def are_least_bad(loom, bits):
+    # What has a bad part is bad: it is enough to leave out one ROW each.
+    return are_bad(loom, bits) and not any([are_bad(loom, own) for own in lesser_by_one(bits)])
+
+
+def all_bad(loom):
+    """For each set of ROWS, told by its bits, whether it is bad."""
+    bad = [False]
+    for bits in range(1, 1 << len(loom.rows)):
+        bad.append(any([bad[own] for own in lesser_by_one(bits)]) or are_bad(loom, bits))
+    return bad
+
+
+def least_of_bad(bad):
+    """The bits of those sets of which no lesser part is bad."""
+    return [bits for bits, own in enumerate(bad) if own and not any([bad[part] for part in lesser_by_one(bits)])]

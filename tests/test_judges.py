@@ -1,0 +1,151 @@
+"""[2]: the judges of papers: True for just the things that their points describe, and no error, whatever thing is."""
+
+import itertools
+import unittest
+
+import helper
+from helper import (SHOPS, Dice, against_ok, lock_ok, mutants, number_ok, plain_bad, plain_beats, plain_has, plain_locks,
+                    plain_names, plain_state, plain_stands, plain_tight, rows_ok, same)
+from lockstold.fewrows import is_least_bad
+from lockstold.liars import is_leaving, is_papers_apart
+from lockstold.middles import is_open_triple
+from lockstold.told import is_against, is_tight_shelf, is_why_not_let
+from lockstold.tomorrow import is_why_not_answer
+from lockstold.woven import is_gap, is_lenders
+
+AB, BC, AC = (("a", 1), ("b", 1)), (("b", 1), ("c", 1)), (("a", 1), ("c", 1))
+THREE = ((2, (("a", (1,)), ("b", (1,))), AB), (4, (("b", (1,)), ("c", (1,))), BC), (6, (("a", (1,)), ("c", (1,))), AC))
+SHOWN = ((0, (("app", (1, 2)),), (("app", 2), ("lib", 1))), (0, (("lib", (1, 2)),), (("lib", 2),)),
+         (0, (("app", (1,)), ("lib", (1, 2))), (("app", 1), ("lib", 2))))
+HEARD = ((0, (("tea", (1,)),), (("cup", 1), ("tea", 1))), (1, (("tea", (1,)),), (("cup", 2), ("tea", 1))),
+         (2, (("cup", (1, 2)),), (("cup", 1),)), (3, (), ()), (3, (("cup", (3,)),), (("tea", 1),)))
+
+
+class JudgesTest(unittest.TestCase):
+
+    def check(self, asked, wanted, seeds):
+        """asked is True of just the things of which wanted is, seeds and what comes of them."""
+        seen = {True: 0, False: 0}
+        for seed in seeds:
+            for thing in mutants(seed):
+                found = asked(thing)
+                self.assertIs(found, bool(wanted(thing)), repr(thing))
+                seen[found] += 1
+        self.assertTrue(seen[True] and seen[False], seen)
+
+    def test_lenders(self):
+        fine = (((("a", 1), (0, 2)), (("c", 1), (1, 2))),
+                (((("a", 1), "b", 0), 2), ((("a", 1), "c", 1), 2), ((("c", 1), "a", 1), 2), ((("c", 1), "b", 0), 2)))
+        growing = (tuple((own, rows[:1]) for own, rows in fine[0]), fine[1])
+        for shop, day in (("short", 5), ("growing", 4), ("still", 0), ("short", 1)):
+            def wanted(thing):
+                return self.lenders_ok(THREE, shop, day, AC, thing)
+            seeds = [fine, growing]
+            if day == 1:
+                self.assertFalse(any(is_lenders(THREE, shop, day, AC, thing) for seed in seeds for thing in mutants(seed)))
+            else:
+                self.check(lambda thing: is_lenders(THREE, shop, day, AC, thing), wanted, seeds)
+        self.check(lambda thing: is_lenders(THREE, "short", 0, (), thing), lambda thing: same(thing, ((), ())), [((), ())])
+
+    def lenders_ok(self, telling, shop, day, lock, thing):
+        locks = plain_locks(telling)
+        pairs = [(own, name, plain_state(lock, name)) for own in lock for name in plain_names(telling) if name != own[0]]
+        if type(thing) is not tuple or len(thing) != 2 or not all(type(own) is tuple for own in thing):
+            return False
+        for part, keys in zip(thing, (list(lock), sorted(pairs))):
+            if not all(type(own) is tuple and len(own) == 2 for own in part):
+                return False
+            if not same(tuple(own[0] for own in part), tuple(keys)):
+                return False
+        for own, rows in thing[0]:
+            if type(rows) is not tuple or len(rows) != (2 if shop == "short" else 1):
+                return False
+            if not all(number_ok(at, 0) and at < len(telling) and own in locks[at] for at in rows):
+                return False
+            if shop != "still" and telling[rows[0]][0] > day or shop == "short" and telling[rows[1]][0] < day:
+                return False
+        return all(number_ok(at, 0) and at < len(telling) and pair[0] in locks[at]
+                   and plain_state(locks[at], pair[1]) == pair[2] for pair, at in thing[1])
+
+    def test_gaps(self):
+        lock = (("a", 1), ("b", 2), ("c", 1))
+        for shop, day, gaps in (
+                ("still", 0, [("never", ("b", 2)), ("apart", ("a", 1), "b"), ("apart", ("c", 1), "b")]),
+                ("growing", 3, [("never", ("b", 2)), ("apart", ("a", 1), "b"), ("apart", ("c", 1), "b"), ("early", ("c", 1))]),
+                ("short", 7, [("never", ("b", 2)), ("apart", ("a", 1), "b"), ("apart", ("c", 1), "b"), ("late", ("a", 1)),
+                              ("late", ("c", 1))])):
+            self.check(lambda thing: is_gap(THREE, shop, day, lock, thing),
+                       lambda thing: any(same(thing, own) for own in gaps), gaps + [("early", ("a", 1))])
+
+    def test_tight_shelves(self):
+        for telling, shop in ((SHOWN, "still"), (SHOWN, "short"), (THREE, "growing")):
+            shelf = plain_tight(telling, shop)
+            self.check(lambda thing: is_tight_shelf(telling, shop, thing), lambda thing: same(thing, shelf), [shelf])
+        for thing in mutants(plain_tight(HEARD, "still")):
+            self.assertIs(is_tight_shelf(HEARD, "still", thing), False)
+
+    def test_againsts(self):
+        seeds = [("unmet", 4), ("better", 0, (("cup", 2), ("tea", 1)), (1,)), ("better", 2, (("cup", 2), ("tea", 1)), (1, 3)),
+                 ("better", 3, (), ())]
+        for shop in SHOPS:
+            self.check(lambda thing: is_against(HEARD, shop, thing), lambda thing: against_ok(HEARD, shop, thing), seeds)
+        dice = Dice(111)
+        for _ in range(6):
+            telling = dice.telling(rows=4, lies=0.5)
+            for shop, thing in itertools.product(SHOPS, mutants(("better", 0, (("a", 1),), (0, 1)))):
+                self.assertIs(is_against(telling, shop, thing), against_ok(telling, shop, thing))
+
+    def test_why_not_answer(self):
+        given = (1, (("cup", (1,)),), (("cup", 1),))
+        rows = HEARD[:2] + (given,)
+        self.check(lambda thing: is_why_not_answer(HEARD[:2], "still", *given, thing),
+                   lambda thing: against_ok(rows, "still", thing), [("better", 0, (("cup", 2), ("tea", 1)), (1,)), ("unmet", 2)])
+        for thing in mutants(("better", 0, (("cup", 2), ("tea", 1)), (1,))):
+            self.assertIs(is_why_not_answer(HEARD[:2], "growing", *given, thing), False)
+
+    def test_why_not_let(self):
+        shelf = [(own[0], own[1], 0, None) for own in plain_tight(SHOWN, "still")]
+        shelf = [own if own[0] != ("app", 2) else (own[0], (("lib", (0, 1)),), 0, None) for own in shelf]
+
+        def wanted(thing):
+            if type(thing) is not tuple or len(thing) != 2 or not number_ok(thing[0], 0) or thing[0] > 2:
+                return False
+            lock = thing[1]
+            return lock_ok(lock) and ("app", 2) in lock and plain_state(lock, "lib") == 0 and (
+                plain_stands(shelf, 0, lock) and plain_beats(lock, SHOWN[thing[0]]))
+
+        self.check(lambda thing: is_why_not_let(SHOWN, "still", ("app", 2), "lib", 0, thing), wanted, [(0, (("app", 2),))])
+        for thing in mutants((0, (("app", 2),))):
+            self.assertIs(is_why_not_let(SHOWN, "still", ("app", 2), "lib", 1, thing), False)
+
+    def test_sets_of_rows(self):
+        for shop in SHOPS:
+            bad = plain_bad(HEARD, shop)
+            least = helper.least_of(bad)
+            seeds = least + [(0, 1, 4), (2, 4), ()]
+            self.check(lambda thing: is_least_bad(HEARD, shop, thing), lambda thing: any(same(thing, own) for own in least), seeds)
+            self.check(lambda thing: is_leaving(HEARD, shop, thing),
+                       lambda thing: rows_ok(thing, 5) and plain_has([HEARD[at] for at in range(5) if at not in thing], shop),
+                       [(1, 4), (1, 2, 4), (4,), ()])
+            self.check(lambda thing: is_papers_apart(HEARD, shop, thing), lambda thing: self.papers_ok(bad, thing),
+                       [((0, 1), (4,)), ((1, 2), (4,)), ((4,),), ((0, 1, 2, 3, 4),), ()])
+
+    def papers_ok(self, bad, thing):
+        if type(thing) is not tuple or not all(rows_ok(own, 5) and own in bad for own in thing):
+            return False
+        rows = [at for own in thing for at in own]
+        return list(thing) == sorted(set(thing)) and len(set(rows)) == len(rows)
+
+    def test_open_triples(self):
+        locks = (("a", 1), ("b", 2)), (("a", 2), ("c", 1))
+        members = set(locks) | {()}
+
+        def wanted(thing):
+            return type(thing) is tuple and len(thing) == 3 and all(lock_ok(own) for own in thing) and (
+                set(thing) == members)
+
+        self.check(lambda thing: is_open_triple(locks, thing), wanted, [locks + ((),), locks[::-1] + ((),), (locks[0],) * 3])
+
+
+if __name__ == "__main__":
+    unittest.main()
