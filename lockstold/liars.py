@@ -3,7 +3,7 @@
 from lockstold.checks import check_few, check_rows
 from lockstold.errors import CanNot, Unfit
 from lockstold.loom import Loom, all_bits
-from lockstold.plain import ascends, frozen, is_number_from, is_rows_of
+from lockstold.plain import ascends, is_number_from, is_rows_of
 from lockstold.rowsets import all_bad, are_bad, bits_of, least_of_bad, rows_of_bits
 
 

@@ -13,16 +13,16 @@ class Loom:
         self.rows = frozen(telling)
         self.kind = shop
         self.having = _bits_having(self.rows)
-        self.naming = _bits_naming(self.having)
-        self.lending = _bits_lending(self.rows, sorted(self.naming))
-        self.plans = [plan_for(self, day, wish) for day, wish, _ in self.rows]
+        self.names = sorted({own[0] for own in self.having})
+        self.lending = _bits_lending(self.rows, self.names)
+        self.plans = [plan_for(self, row[0], row[1]) for row in self.rows]
 
 
 def plan_for(loom, day, wish):
     """The steps by which LOCKS that meet wish are woven, and the ends of each RELEASE on day."""
     spans = _spans(loom.rows, loom.kind, day)
     ends = {own: [loom.having[own] & span for span in spans] for own in loom.having}
-    choices = {name: [0] for name in loom.naming}
+    choices = {name: [0] for name in loom.names}
     for name, version in ends:
         choices[name].append(version)
     return steps_for(wish, choices), ends
@@ -70,25 +70,17 @@ def _is_lost(loom, bits, at):
 def _bits_having(rows):
     """For each told RELEASE the ROWS that have it."""
     found = {}
-    for at, (_, _, answer) in enumerate(rows):
-        for release in answer or ():
+    for at, row in enumerate(rows):
+        for release in row[2] or ():
             found[release] = found.get(release, 0) | 1 << at
-    return found
-
-
-def _bits_naming(having):
-    """For each told NAME the ROWS that tell it."""
-    found = {}
-    for name, version in having:
-        found[name] = found.get(name, 0) | having[(name, version)]
     return found
 
 
 def _bits_lending(rows, names):
     """For each PAIR of these NAMES that told LOCKS have the ROWS that have it."""
     found = {}
-    for at, (_, _, answer) in enumerate(rows):
-        for pair in pairs_of(answer or (), names):
+    for at, row in enumerate(rows):
+        for pair in pairs_of(row[2] or (), names):
             found[pair] = found.get(pair, 0) | 1 << at
     return found
 
@@ -115,8 +107,6 @@ def _goes(loom, bits, ends, held, part):
 
 
 def _is_lent(loom, bits, part, other):
-    """Whether a ROW of bits has the PAIR of part, if it is a RELEASE, and other."""
-    if part[1] == 0 or loom.lending.get((part, other[0], other[1]), 0) & bits:
-        return True
-    # Of a NAME that none of the ROWS tells nothing is asked.
-    return not loom.naming[other[0]] & bits
+    """Whether a ROW of bits has the PAIR of part, if it is a RELEASE that one of them has, and other."""
+    # A NAME that none of them tells is away in the ROW that has part, which so lends the PAIR: no need to ask.
+    return part[1] == 0 or loom.lending.get((part, other[0], other[1]), 0) & bits != 0

@@ -110,8 +110,8 @@ def _choices(telling):
 def _check_few_locks(telling):
     """TooMany if the told RELEASES of telling give more LOCKS than are gone through."""
     many = 1
-    for _, lot in _choices(telling):
-        many = many * len(lot)
+    for own in _choices(telling):
+        many = many * len(own[1])
     if many > MOST_LOCKS:
         raise TooMany()
 

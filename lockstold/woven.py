@@ -33,7 +33,7 @@ def is_lenders(telling, shop, day, lock, thing):
 def rows_lent(told):
     """The numbers of ROWS that stand in the LENDERS told."""
     ends, lent = told
-    numbers = [number for _, rows in ends for number in rows] + [number for _, number in lent]
+    numbers = [number for own in ends for number in own[1]] + [own[1] for own in lent]
     return tuple(sorted(set(numbers)))
 
 

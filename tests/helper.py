@@ -4,6 +4,7 @@ import importlib
 import itertools
 import random
 import re
+import unittest
 
 # Each file of the interface that has landed, in order, with its functions and their parameters.
 INTERFACE = {
@@ -201,6 +202,20 @@ def _mutants_within(value):
                 yield value[:at] + (odd,) + value[at + 1:]
             for own in _mutants_within(part):
                 yield value[:at] + (own,) + value[at + 1:]
+
+
+class JudgeCase(unittest.TestCase):
+    """Tests of functions that judge a `thing`."""
+
+    def check(self, asked, wanted, seeds):
+        """asked is True of just the things of which wanted is, seeds and what comes of them."""
+        seen = {True: 0, False: 0}
+        for seed in seeds:
+            for thing in mutants(seed):
+                found = asked(thing)
+                self.assertIs(found, bool(wanted(thing)), repr(thing))
+                seen[found] += 1
+        self.assertTrue(seen[True] and seen[False], seen)
 
 
 # What is what, reckoned plainly and by kinds alone.

@@ -4,7 +4,7 @@ import itertools
 import unittest
 
 import helper
-from helper import (SHOPS, Dice, against_ok, lock_ok, mutants, number_ok, plain_bad, plain_beats, plain_has, plain_locks,
+from helper import (SHOPS, Dice, JudgeCase, against_ok, lock_ok, mutants, number_ok, plain_bad, plain_beats, plain_has, plain_locks,
                     plain_names, plain_state, plain_stands, plain_tight, rows_ok, same)
 from lockstold.fewrows import is_least_bad
 from lockstold.liars import is_leaving, is_papers_apart
@@ -21,17 +21,7 @@ HEARD = ((0, (("tea", (1,)),), (("cup", 1), ("tea", 1))), (1, (("tea", (1,)),), 
          (2, (("cup", (1, 2)),), (("cup", 1),)), (3, (), ()), (3, (("cup", (3,)),), (("tea", 1),)))
 
 
-class JudgesTest(unittest.TestCase):
-
-    def check(self, asked, wanted, seeds):
-        """asked is True of just the things of which wanted is, seeds and what comes of them."""
-        seen = {True: 0, False: 0}
-        for seed in seeds:
-            for thing in mutants(seed):
-                found = asked(thing)
-                self.assertIs(found, bool(wanted(thing)), repr(thing))
-                seen[found] += 1
-        self.assertTrue(seen[True] and seen[False], seen)
+class JudgesTest(JudgeCase):
 
     def test_lenders(self):
         fine = (((("a", 1), (0, 2)), (("c", 1), (1, 2))),

@@ -3,7 +3,7 @@
 import unittest
 
 import helper
-from helper import Dice, mutants, same
+from helper import Dice, JudgeCase, mutants, same
 from lockstold.locks import is_lock
 from lockstold.shelves import is_shelf
 from lockstold.standing import is_why_falls
@@ -18,17 +18,7 @@ SHELF = ((("app", 1), (("lib", (1, 2)),), 0, None), (("app", 2), (("lib", (2,)),
          (("lib", 2), (), 0, 0))
 
 
-class ThingsTest(unittest.TestCase):
-
-    def check(self, asked, wanted, seeds):
-        """asked is True of just the things of which wanted is, seeds and what comes of them."""
-        seen = {True: 0, False: 0}
-        for seed in seeds:
-            for thing in mutants(seed):
-                found = asked(thing)
-                self.assertIs(found, wanted(thing), repr(thing))
-                seen[found] += 1
-        self.assertTrue(seen[True] and seen[False])
+class ThingsTest(JudgeCase):
 
     def test_names(self):
         self.check(is_name, helper.name_ok, ["a", "lib", LONG, LONG + "m", "z", "az", "a" * 13])

@@ -5,7 +5,7 @@ import unittest
 
 import histories
 from helper import (SHOPS, Dice, against_ok, locks_over, outcome, plain_beats, plain_has, plain_locks, plain_names,
-                    plain_stands, plain_state, plain_tight, told_versions)
+                    plain_stands, plain_tight, told_versions)
 from histories import RELEASES, all_histories, all_shelves, history_tells, made_up_telling, shelf_tells
 from lockstold.errors import CanNot, Unfit
 from lockstold.told import (against, first_clash, has_shelf, is_against, is_tight_shelf, is_why_not_let, may_forbid, may_let,

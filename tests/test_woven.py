@@ -3,8 +3,8 @@
 import itertools
 import unittest
 
-from helper import (SHOPS, Dice, lock_ok, locks_over, outcome, plain_all_woven, plain_beats, plain_best, plain_locks,
-                    plain_met, plain_names, plain_standing, plain_state, plain_tight, plain_woven, told_versions)
+from helper import (SHOPS, Dice, locks_over, outcome, plain_all_woven, plain_best, plain_locks, plain_met, plain_names,
+                    plain_standing, plain_state, plain_tight, plain_woven)
 from lockstold.errors import NoPaper
 from lockstold.woven import (all_woven, best_woven, gap, is_gap, is_lenders, is_woven, lenders, new_woven, rows_lent,
                              woven_days, woven_more)
