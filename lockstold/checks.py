@@ -25,5 +25,10 @@ def check_rows(rows, numbers):
 
 def check_few(rows):
     """TooMany if there are more ROWS than all sets of them can be gone through."""
-    if len(rows) > MOST_ROWS:
+    check_most(rows, MOST_ROWS)
+
+
+def check_most(rows, most):
+    """TooMany if there are more than so many ROWS."""
+    if len(rows) > most:
         raise TooMany()

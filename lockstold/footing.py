@@ -1,7 +1,7 @@
 """What stands on a SHELF on a DAY, however many LOCKS there are."""
 
 from lockstold.plain import frozen, is_there
-from lockstold.search import all_held, first_held, lock_of, steps_for
+from lockstold.search import all_held, first_held, lock_of, steps_by, steps_for
 
 
 def rules_on(shelf, day):
@@ -26,10 +26,15 @@ def all_upright(rules, choices):
 
 def best_upright(shelf, day, wish):
     """The ANSWER of shelf to wish on day, without going through all LOCKS."""
+    return best_upright_by(shelf, (), day, wish)
+
+
+def best_upright_by(shelf, rank, day, wish):
+    """The ANSWER by a RANK."""
     rules = rules_on(shelf, day)
     choices = choices_of(rules)
     barred = _barred(rules, choices)
-    steps = steps_for(wish, choices)
+    steps = steps_by(rank, wish, choices)
     held = first_held(steps, lambda ahead, part: _goes_with(ahead, barred[part]))
     return None if held is None else lock_of(held)
 

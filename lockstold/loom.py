@@ -2,7 +2,7 @@
 
 from lockstold.locks import pairs_of
 from lockstold.plain import frozen
-from lockstold.search import all_held, first_held, lock_of, steps_for
+from lockstold.search import all_held, first_held, lock_of, steps_by
 from lockstold.wishes import is_met
 
 
@@ -20,12 +20,17 @@ class Loom:
 
 def plan_for(loom, day, wish):
     """The steps by which LOCKS that meet wish are woven, and the ends of each RELEASE on day."""
+    return plan_by(loom, (), day, wish)
+
+
+def plan_by(loom, rank, day, wish):
+    """The same by the ORDER of a RANK."""
     spans = _spans(loom.rows, loom.kind, day)
     ends = {own: [loom.having[own] & span for span in spans] for own in loom.having}
     choices = {name: [0] for name in loom.names}
     for name, version in ends:
         choices[name].append(version)
-    return steps_for(wish, choices), ends
+    return steps_by(rank, wish, choices), ends
 
 
 def all_bits(loom):
@@ -48,23 +53,32 @@ def all_by(loom, bits, plan):
 def first_lost(loom, bits):
     """The least number of a ROW of bits that is in an AGAINST of the ROWS of bits as its own, None without."""
     for at in range(len(loom.rows)):
-        if bits >> at & 1 and _is_lost(loom, bits, at):
+        if bits >> at & 1 and is_lost(loom, bits, at):
             return at
     return None
+
+
+def is_lost(loom, bits, at):
+    """Whether the ROW at, one of bits, is in an AGAINST of the ROWS of bits as its own."""
+    return is_lost_by(loom, bits, loom.plans[at], at)
+
+
+def is_lost_by(loom, bits, plan, at):
+    """The same if the ORDER of its WISH is the one of plan."""
+    row = loom.rows[at]
+    # An answer that meets its WISH is woven itself: what is better is the best one then.
+    return is_unmet(row) or best_by(loom, bits, plan) != row[2]
+
+
+def is_unmet(row):
+    """Whether the answer of row is a LOCK that does not meet its WISH."""
+    return row[2] is not None and not is_met(row[1], row[2])
 
 
 def can_be_told(telling, shop):
     """Whether some SHELF of this SHOP tells telling."""
     loom = Loom(telling, shop)
     return first_lost(loom, all_bits(loom)) is None
-
-
-def _is_lost(loom, bits, at):
-    _, wish, answer = loom.rows[at]
-    if answer is not None and not is_met(wish, answer):
-        return True
-    # An answer that meets its WISH is woven itself: what is better is the best one then.
-    return best_by(loom, bits, loom.plans[at]) != answer
 
 
 def _bits_having(rows):

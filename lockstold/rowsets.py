@@ -20,6 +20,18 @@ def lesser_by_one(bits):
     return [bits ^ 1 << at for at in range(bits.bit_length() - 1, -1, -1) if bits >> at & 1]
 
 
+def with_greatest(bits):
+    """The sets of ROWS of bits, which has one at least, that have its greatest ROW."""
+    top = 1 << bits.bit_length() - 1
+    rest, found = bits ^ top, [bits]
+    # One less in the bits of rest alone: so each set of these comes once, the last one without any.
+    part = rest
+    while part > 0:
+        part = part - 1 & rest
+        found.append(top | part)
+    return found
+
+
 def are_bad(loom, bits):
     """Whether no SHELF tells the ROWS of bits alone."""
     return first_lost(loom, bits) is not None

@@ -1,13 +1,18 @@
 """How LOCKS are put together NAME by NAME, the best STATES first."""
 
 from lockstold.states import from_best, lot_in
-from lockstold.wishes import order_of
 
 
 def steps_for(wish, choices):
     """For each NAME in the ORDER of wish the parts (name, state) it may have, the best first."""
+    return steps_by((), wish, choices)
+
+
+def steps_by(rank, wish, choices):
+    """The same by the ORDER of a RANK, which may have NAMES that choices do not have."""
+    order = [own[0] for own in wish] + [name for name in rank if name in choices] + sorted(choices)
     steps = []
-    for name in order_of(wish, sorted(choices)):
+    for name in {name: True for name in order}:
         versions = lot_in(wish, name)
         # A NAME of wish that has no choices is not there: its step stays empty.
         states = [state for state in choices.get(name, []) if versions is None or state in versions]

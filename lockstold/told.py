@@ -2,16 +2,16 @@
 
 from lockstold.checks import SHOPS, fit_telling
 from lockstold.errors import CanNot, Unfit
+from lockstold.lent import is_lent_triple, lent_triple
 from lockstold.locks import is_lock, state_of
-from lockstold.loom import Loom, all_bits, can_be_told, first_lost
-from lockstold.plain import frozen, is_number_from, is_rows_of, is_same, is_tuple_of
+from lockstold.loom import Loom, all_bits, best_by, can_be_told, first_lost, is_unmet
+from lockstold.plain import frozen, is_number_from, is_row_number, is_same, is_tuple_of
 from lockstold.shelves import let_more, rules_of
 from lockstold.standing import stands
 from lockstold.states import is_name, is_release
 from lockstold.tellings import (first_told, first_untold, last_told, names_told, pairs_told, releases_told, row_of,
                                 rows_with, tells)
 from lockstold.wishes import is_better, is_met
-from lockstold.woven import best_woven, is_woven, lenders, rows_lent
 
 
 def has_shelf(telling, shop):
@@ -43,23 +43,19 @@ def against(telling, shop):
     lost = first_lost(loom, all_bits(loom))
     if lost is None:
         raise CanNot()
-    day, wish, answer = rows[lost]
-    if answer is not None and not is_met(wish, answer):
+    if is_unmet(rows[lost]):
         return ("unmet", lost)
-    lock = best_woven(rows, shop, day, wish)
-    return ("better", lost, lock, rows_lent(lenders(rows, shop, day, lock)))
+    lock = best_by(loom, all_bits(loom), loom.plans[lost])
+    return ("better",) + lent_triple(rows, shop, lost, lock)
 
 
 def is_against(telling, shop, thing):
     rows = fit_telling(telling, shop)
     if is_tuple_of(2, thing) and thing[0] == "unmet":
-        return _is_row_of(rows, thing[1]) and _is_unmet(rows[thing[1]])
-    if not is_tuple_of(4, thing) or thing[0] != "better" or not _is_row_of(rows, thing[1]):
+        return is_row_number(len(rows), thing[1]) and is_unmet(rows[thing[1]])
+    if not is_tuple_of(4, thing) or thing[0] != "better":
         return False
-    _, number, lock, lent = thing
-    if not is_lock(lock) or not is_rows_of(len(rows), lent) or not _beats(lock, rows[number]):
-        return False
-    return is_woven([rows[own] for own in lent], shop, rows[number][0], lock)
+    return is_lent_triple(rows, shop, thing[1:]) and _beats(thing[2], rows[thing[1]])
 
 
 def first_clash(telling, shop):
@@ -114,7 +110,7 @@ def why_not_let(telling, shop, release, name, state):
 def is_why_not_let(telling, shop, release, name, state, thing):
     rows, pair = fit_telling(telling, shop), _fit_pair(release, name, state)
     _check_told(rows, shop)
-    if not is_tuple_of(2, thing) or not _is_row_of(rows, thing[0]) or not is_lock(thing[1]):
+    if not is_tuple_of(2, thing) or not is_row_number(len(rows), thing[0]) or not is_lock(thing[1]):
         return False
     number, lock = thing
     if pair[0] not in lock or state_of(lock, name) != state or not _beats(lock, rows[number]):
@@ -162,14 +158,6 @@ def _widened(rows, shop, pair):
     """The TIGHT SHELF that lets the PAIR, too."""
     release, name, state = pair
     return let_more(_tight(rows, shop), release, name, state)
-
-
-def _is_row_of(rows, thing):
-    return is_number_from(0, thing) and thing < len(rows)
-
-
-def _is_unmet(row):
-    return row[2] is not None and not is_met(row[1], row[2])
 
 
 def _beats(lock, row):

@@ -1,7 +1,7 @@
 """WISHES: which LOCKS meet them, and which of these are better."""
 
 from lockstold.locks import names_in, state_of, unlike_names
-from lockstold.plain import frozen, is_set_from, is_tuple_of
+from lockstold.plain import frozen, is_better_state, is_set_from, is_tuple_of
 from lockstold.states import is_name, lot_in, lots_common
 
 
@@ -35,8 +35,7 @@ def is_better(wish, lock, far):
     name = first_unlike(wish, lock, far)
     if name is None:
         return False
-    mine, theirs = state_of(lock, name), state_of(far, name)
-    return mine == 0 or mine > theirs > 0
+    return is_better_state(state_of(lock, name), state_of(far, name))
 
 
 def first_unlike(wish, lock, far):

@@ -2,6 +2,7 @@
 
 from lockstold.errors import CanNot, NoPaper
 from lockstold.locks import is_lock, state_of
+from lockstold.plain import stretches
 from lockstold.shelves import is_shelf, shop_of, turning_days
 from lockstold.standing import all_standing
 from lockstold.wishes import best_that_meets, is_wish, just_wish
@@ -66,7 +67,7 @@ def parting_day(one, other):
 def worn_along(shelf):
     """The DAYS from 0 on in stretches of one WORN form."""
     starts = _starts(turning_days(shelf))
-    return _stretches(starts, [worn(shelf, day) for day in starts])
+    return stretches(starts, [worn(shelf, day) for day in starts])
 
 
 def _lots_beside(locks):
@@ -95,16 +96,4 @@ def _starts(days):
 def _alike_along(one, other):
     """The DAYS from 0 on in stretches, each with whether one and other are alike on them."""
     starts = _starts(turning_days(one) + turning_days(other))
-    return _stretches(starts, [alike_on(one, other, day) for day in starts])
-
-
-def _stretches(starts, values):
-    """Triples (first, last, value) of the DAYS from starts on, equal neighbours put together."""
-    found = []
-    for first, value in zip(starts, values):
-        if found and found[-1][2] == value:
-            continue
-        if found:
-            found[-1] = (found[-1][0], first - 1, found[-1][2])
-        found.append((first, None, value))
-    return found
+    return stretches(starts, [alike_on(one, other, day) for day in starts])

@@ -106,6 +106,33 @@ INTERFACE = {
         "papers_apart": ("telling", "shop"), "is_papers_apart": ("telling", "shop", "thing"),
         "cheapest_out": ("telling", "shop", "doubts"),
     },
+    "mirrors": {
+        "can_share": ("telling", "shop", "rows"), "fewest_mirrors": ("telling", "shop"), "dealt": ("telling", "shop"),
+        "is_dealt": ("telling", "shop", "thing"), "how_many_deals": ("telling", "shop", "most"),
+        "same_mirror": ("telling", "shop", "number", "other"), "shared_by_all": ("telling", "shop"),
+        "lone_rows": ("telling", "shop"), "apart_rows": ("telling", "shop"),
+        "is_apart_rows": ("telling", "shop", "thing"), "mirror_shelves": ("telling", "shop", "deal"),
+    },
+    "ranks": {
+        "is_rank": ("telling", "thing"), "answer_by": ("shelf", "rank", "day", "wish"),
+        "rivals": ("telling", "shop", "row"), "fits_rank": ("telling", "shop", "rank"), "all_ranks": ("telling", "shop"),
+        "least_rank": ("telling", "shop"), "rank_paper": ("telling", "shop"),
+        "is_rank_paper": ("telling", "shop", "thing"), "sure_ahead": ("telling", "shop"),
+        "can_be_first": ("telling", "shop"),
+    },
+    "windows": {
+        "window_of": ("telling", "release"), "earliest_day": ("telling", "shop", "release"),
+        "latest_day": ("telling", "shop", "release"), "gone_rows": ("telling", "shop", "release"),
+        "days_for": ("telling", "shop", "row"), "shop_needed": ("telling",), "day_order": ("telling",),
+        "is_day_order": ("telling", "thing"), "day_knot": ("telling",), "is_day_knot": ("telling", "thing"),
+    },
+    "changes": {
+        "is_change": ("thing",), "changed": ("telling", "change"), "all_changed": ("telling", "changes"),
+        "back_from": ("telling", "change"), "first_break": ("telling", "shop", "changes"),
+        "rows_without": ("telling", "name"), "days_numbered": ("telling",), "days_turned": ("telling", "day"),
+        "names_changed": ("telling", "names"), "disputed": ("telling", "shop"), "fewest_changes": ("one", "other"),
+        "changes_between": ("one", "other"), "is_changes_between": ("one", "other", "thing"),
+    },
 }
 
 SHOPS = ("still", "growing", "short")
@@ -461,6 +488,15 @@ def against_ok(telling, shop, thing):
 def all_sets(many):
     """All sets of so many numbers of ROWS."""
     return [own for size in range(many + 1) for own in itertools.combinations(range(many), size)]
+
+
+def all_deals(many):
+    """All ways to put so many numbers of ROWS in sets, each one in just one of them."""
+    found = [()]
+    for at in range(many):
+        found = [own[:k] + (part + (at,),) + own[k + 1:] for own in found for k, part in enumerate(own)] + (
+            [own + ((at,),) for own in found])
+    return sorted(tuple(sorted(own)) for own in found)
 
 
 def least_of(sets):

@@ -25,11 +25,16 @@ FOUR = ((1, (("app", (1,)),), (("app", 1),)), (1, (("lib", (1,)),), (("lib", 1),
         (2, (("app", (1,)), ("lib", (1,))), LOCKS[2]), (1, (("app", (1,)), ("lib", (1,))), None))
 SHOWN = ((0, (("app", (1, 2)),), (("app", 2), ("lib", 1))), (0, (("lib", (1, 2)),), (("lib", 2),)),
          (0, (("app", (1,)), ("lib", (1, 2))), (("app", 1), ("lib", 2))))
+TORN = ((0, (("a", (1,)),), (("a", 1), ("b", 1), ("c", 2))), (1, (("b", (2,)), ("a", (1,))), (("a", 1), ("b", 2), ("c", 1))),
+        (2, (("a", (1,)),), (("a", 1), ("b", 2), ("c", 1))))
+CROSS = ((0, (("a", (1, 2)),), (("a", 1), ("b", 2))), (5, (("b", (1, 2)),), (("a", 2), ("b", 1))))
 TELLINGS = [(), THREE, FOUR, SHOWN, FOUR[:3]]
 SHOPS = ["still", "growing", "short"]
 LENDERS = (((("a", 1), (0, 2)), (("c", 1), (1, 2))), (((("a", 1), "b", 0), 2),))
 OF_SHELVES = {"telling": TELLINGS, "shop": SHOPS, "day": [0, 2, 5]}
 ANY_LIB = (("lib", (1, 2)),)
+
+CHANGES = [("back", 0), ("told", 1, THREE[2]), ("shift", 0, 9), ("other", 1, None), ("other", 0, AC), ("back", 3), ("told", 9, FOUR[0])]
 
 # Samples for each parameter, by the file and the name of it.
 SAMPLES = {
@@ -67,6 +72,18 @@ SAMPLES = {
                  "later": [(), ANY_LIB], "name": ["lib", "b"], "wishes": [((),), (ANY_LIB, (("c", (1,)),), ANY_LIB)]},
     "liars": {**OF_SHELVES, "telling": TELLINGS + [FOUR * 2, THREE * 4], "number": [0, 3, 9], "kept": [(), (0,), (2, 3), (0, 9)],
               "doubts": [(), (1, 2, 3), (3, 1, 1, 2)]},
+    "mirrors": {**OF_SHELVES, "telling": TELLINGS + [FOUR * 2, THREE * 4, THREE[:1]], "rows": [(), (0,), (2, 3), (0, 9)],
+                "number": [0, 3, 9], "other": [0, 2, 7], "most": [-1, 0, 1, 4],
+                "deal": [(), ((0, 1, 2),), ((0, 1, 3), (2,)), ((0,), (1,), (2,), (3,)), ((0,), (9,))]},
+    "ranks": {**OF_SHELVES, "telling": TELLINGS + [TORN, TORN[:2]], "row": [0, 1, 2, 9], "shelf": SHELVES,
+              "rank": [(), ("a", "b", "c"), ("c", "a", "b"), ("app", "lib"), ("zoo", "lib", "app")],
+              "wish": [(), ANY_LIB, (("app", (1, 2)), ("lib", (1,)))]},
+    "windows": {**OF_SHELVES, "telling": TELLINGS + [FOUR[2:0:-1]], "row": [0, 1, 2, 9],
+                "release": [("a", 1), ("b", 1), ("app", 1), ("lib", 1), ("z", 1)]},
+    "changes": {**OF_SHELVES, "change": CHANGES, "changes": [(), CHANGES[:2], CHANGES[1:], tuple(CHANGES)],
+                "name": ["a", "lib", "z"], "one": TELLINGS, "other": TELLINGS,
+                "names": [(), (("a", "b"), ("b", "c"), ("c", "z")), (("app", "core"), ("lib", "util")),
+                          (("app", "core"), ("lib", "a"))]},
 }
 
 
@@ -76,14 +93,23 @@ MORE = {"why_not_let": [(SHOWN, own, ("app", 2), "lib", 0) for own in SHOPS],
         "may_let": [(SHOWN, "still", ("app", 2), "lib", own) for own in (0, 1, 2)],
         "narrowed_by": [(SHOWN, "still", 0, (("lib", (1,)),), (("lib", 1),), (("lib", (1,)),))],
         "lenders": [(THREE, "short", 5, AC), (THREE, "growing", 6, AC)],
-        "cheapest_out": [(FOUR, "still", (3, 1, 1, 2))]}
+        "cheapest_out": [(FOUR, "still", (3, 1, 1, 2))],
+        "mirror_shelves": [(FOUR, "still", ((0, 1, 2), (3,))), (THREE, "short", ((0, 1, 2),))],
+        "same_mirror": [(FOUR, "growing", 0, 3), (FOUR, "growing", 3, 0)],
+        "rank_paper": [(TORN, "still"), (FOUR, "growing"), (FOUR + ((0, ANY_LIB, None),), "short")],
+        "sure_ahead": [(TORN, "growing"), (TORN[:2], "still")], "can_be_first": [(TORN[:2], "still")],
+        "day_knot": [(CROSS,), (FOUR + CROSS,)],
+        "names_changed": [(FOUR, (("app", "core"), ("lib", "util"))), (FOUR, (("app", "lib"), ("lib", "util"), ("z", "zz")))]}
 
 
 def told_things(file, parameter, values):
     if parameter == "thing":
         return THINGS + [("lacking", ("app", 1)), ("barred", ("app", 1), "lib"), (("app", (1,)),), (("app", 1),),
                          THREE, THREE[0], LENDERS, ("apart", ("a", 1), "b"), ("never", ("lib", 2)), (AB, BC, ()),
-                         ("better", 3, LOCKS[2], (0, 1, 2)), ("better", 3, LOCKS[2], (2,)), (3,), (2, 3), ((2, 3),), (0, ())]
+                         ("better", 3, LOCKS[2], (0, 1, 2)), ("better", 3, LOCKS[2], (2,)), (3,), (2, 3), ((2, 3),), (0, ()),
+                         ((0,), (1,), (2,)), ((0, 1, 2),), (0, 1, 2), (2, 1, 0), ("a", "b", "c"), ("app", "lib"),
+                         ("stuck", ("b", "c"), ((0, TORN[1][2], (1,)), (2, TORN[0][2], (0,)))), ("back", 0),
+                         ("told", 0, THREE[0]), (("back", 0), ("shift", 1, 5))]
     return values[file][parameter]
 
 
@@ -173,7 +199,7 @@ class CallsTest(unittest.TestCase):
     def test_lists_come_where_several_results_are_told(self):
         lists = {"from_best", "all_locks", "locks_from_best", "all_that_meet", "all_standing", "answers_on",
                  "worn_along", "all_woven", "new_woven", "woven_more", "all_least_bad", "possible_answers", "narrowed_by",
-                 "all_fewest_out", "hit_by"}
+                 "all_fewest_out", "hit_by", "mirror_shelves", "rivals", "all_ranks"}
         seen = set()
         for function, parameters, arguments in all_calls():
             kind, found = outcome(function, *arguments)[:2]

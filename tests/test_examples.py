@@ -48,7 +48,8 @@ class ExamplesTest(unittest.TestCase):
         points = [point for point, _, _ in told_examples()]
         self.assertEqual({point: points.count(point) for point in points},
                          {"[4]": 8, "[5]": 9, "[6]": 12, "[7]": 10, "[8]": 12, "[9]": 9, "[10]": 9, "[11]": 9,
-                          "[12]": 10, "[13]": 11, "[14]": 11, "[15]": 9, "[16]": 13})
+                          "[12]": 10, "[13]": 11, "[14]": 11, "[15]": 9, "[16]": 13, "[17]": 11, "[18]": 10, "[19]": 13,
+                          "[20]": 11})
 
     def test_what_the_readme_shows(self):
         found = doctest.testfile(str(README), module_relative=False, encoding="utf-8")

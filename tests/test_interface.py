@@ -11,7 +11,7 @@ from helper import ERRORS, INTERFACE
 FOLDER = pathlib.Path(__file__).resolve().parent.parent / "lockstold"
 # Each private file stands behind the one of its key.
 PRIVATE = {"errors": ["plain"], "wishes": ["search"], "shelves": ["footing"],
-           "tellings": ["checks", "loom", "rowsets"]}
+           "tellings": ["checks", "loom", "rowsets"], "woven": ["lent"]}
 ORDER = [own for file in ["errors"] + list(INTERFACE) for own in [file] + PRIVATE.get(file, [])]
 
 

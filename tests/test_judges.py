@@ -9,6 +9,7 @@ from helper import (SHOPS, Dice, JudgeCase, against_ok, lock_ok, mutants, number
 from lockstold.fewrows import is_least_bad
 from lockstold.liars import is_leaving, is_papers_apart
 from lockstold.middles import is_open_triple
+from lockstold.mirrors import is_apart_rows, is_dealt
 from lockstold.told import is_against, is_tight_shelf, is_why_not_let
 from lockstold.tomorrow import is_why_not_answer
 from lockstold.woven import is_gap, is_lenders
@@ -119,6 +120,24 @@ class JudgesTest(JudgeCase):
                        [(1, 4), (1, 2, 4), (4,), ()])
             self.check(lambda thing: is_papers_apart(HEARD, shop, thing), lambda thing: self.papers_ok(bad, thing),
                        [((0, 1), (4,)), ((1, 2), (4,)), ((4,),), ((0, 1, 2, 3, 4),), ()])
+
+    def test_deals_and_rows_apart(self):
+        for telling, shop in ((HEARD[:4], "still"), (HEARD[:4], "growing"), (HEARD[:4], "short"), (HEARD, "still")):
+            many, bad = len(telling), plain_bad(telling, shop)
+
+            def deal_ok(thing):
+                return type(thing) is tuple and all(rows_ok(own, many) and own and own not in bad for own in thing) and (
+                    list(thing) == sorted(thing) and sorted(at for own in thing for at in own) == list(range(many)))
+
+            def apart_ok(thing):
+                return rows_ok(thing, many) and all(own in bad for own in itertools.combinations(thing, 2))
+
+            seeds = [((0, 2), (1, 3)), ((0,), (1,), (2,), (3,)), ((0, 1, 2, 3),), ((0, 2, 3), (1,)), ((0, 2), (1,), (3, 4))]
+            if many == 4:
+                self.check(lambda thing: is_dealt(telling, shop, thing), deal_ok, seeds)
+            else:
+                self.assertFalse(any(is_dealt(telling, shop, thing) for seed in seeds for thing in mutants(seed)))
+            self.check(lambda thing: is_apart_rows(telling, shop, thing), apart_ok, [(0, 1), (1, 2), (0, 1, 4), (3,), ()])
 
     def papers_ok(self, bad, thing):
         if type(thing) is not tuple or not all(rows_ok(own, 5) and own in bad for own in thing):
