@@ -133,6 +133,24 @@ INTERFACE = {
         "names_changed": ("telling", "names"), "disputed": ("telling", "shop"), "fewest_changes": ("one", "other"),
         "changes_between": ("one", "other"), "is_changes_between": ("one", "other", "thing"),
     },
+    "judge": {
+        "is_claim": ("thing",), "is_so": ("claim",), "paper": ("claim",), "is_paper": ("claim", "thing"),
+        "shows": ("claim", "thing"), "not_so": ("claims",), "words_so": ("claims",),
+    },
+    "texts": {
+        "shelf_text": ("shelf",), "lock_text": ("lock",), "wish_text": ("wish",), "telling_text": ("telling",),
+        "read_shelf": ("text",), "read_lock": ("text",), "read_wish": ("text",), "read_telling": ("text",),
+    },
+    "yard": {},
+    "desk": {"is_request": ("line",), "replies": ("shop", "text"), "last_yard": ("shop", "text")},
+}
+
+# Each class of the interface, but those of errors, by its file: its constructor's parameters and its methods' ones.
+CLASSES = {
+    "yard": {"Yard": {
+        "__init__": ("shop",), "do": ("edit",), "undo": (), "redo": (), "twin": (), "edits": (), "telling": (), "shop": (),
+        "can_be": (), "tight": (), "rows_out": (), "may_tell": ("day", "wish", "answer"), "__len__": (), "__eq__": ("other",),
+    }},
 }
 
 SHOPS = ("still", "growing", "short")
@@ -151,7 +169,7 @@ def everything():
     for name in ERRORS:
         found[name] = getattr(importlib.import_module("lockstold.errors"), name)
     for file, functions in INTERFACE.items():
-        for name in functions:
+        for name in [*functions, *CLASSES.get(file, ())]:
             found[name] = getattr(importlib.import_module("lockstold." + file), name)
     return found
 

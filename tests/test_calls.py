@@ -36,6 +36,13 @@ ANY_LIB = (("lib", (1, 2)),)
 
 CHANGES = [("back", 0), ("told", 1, THREE[2]), ("shift", 0, 9), ("other", 1, None), ("other", 0, AC), ("back", 3), ("told", 9, FOUR[0])]
 
+CLAIMS = [("told", "still", THREE), ("told", "short", FOUR), ("alike", 3, SPRING, AUTUMN), ("alike", 0, SPRING, SPRING[:2]),
+          ("woven", "still", THREE, 0, AC), ("woven", "growing", THREE, 3, BC), ("come", "still", SHOWN, 0, ANY_LIB, (("lib", 2),)),
+          ("come", "growing", SHOWN, 0, (), None), ("out", "still", FOUR, 0), ("out", "still", FOUR, 1), ("mirrors", "still", FOUR, 1),
+          ("mirrors", "still", FOUR, 2), ("ranked", "still", TORN), ("ranked", "growing", TORN), ("ordered", CROSS),
+          ("ordered", THREE), ("mirrors", "still", FOUR * 2, 2), ("out", "short", THREE * 4, 2), ("alike", 0, WIDE, ()), ("sold", 1),
+          (), (1, "still", ()), ("told", "still"), ("told", "big", THREE), ("told", "still", ((0, (), 1),))]
+
 # Samples for each parameter, by the file and the name of it.
 SAMPLES = {
     "states": {"rules": [(), RULES], "name": ["a", "c"], "state": [0, 1, 2], "lot": [(0, 1, 2), (2,)],
@@ -84,6 +91,13 @@ SAMPLES = {
                 "name": ["a", "lib", "z"], "one": TELLINGS, "other": TELLINGS,
                 "names": [(), (("a", "b"), ("b", "c"), ("c", "z")), (("app", "core"), ("lib", "util")),
                           (("app", "core"), ("lib", "a"))]},
+    "judge": {"claim": CLAIMS, "claims": [(), tuple(CLAIMS[:6]), tuple(CLAIMS[4:10]), tuple(CLAIMS[8:14]), tuple(CLAIMS[-6:])]},
+    "texts": {"shelf": SHELVES, "lock": LOCKS, "wish": [(), ANY_LIB, (("lib", (1, 20)), ("app", (3,)))], "telling": TELLINGS,
+              "text": ["", "lock", "lock a:1 b:20", "wish", "wish b:1,2 a:3", "row 0 ->", "row 3 a:1 -> none\nrow 0 -> a:1", "row",
+                       "release a:1 0 -\nlet b:0,1\nrelease a:2 3 9", "release a:1 0 -\n", "lock b:1 a:1"]},
+    "yard": {},
+    "desk": {"shop": SHOPS, "line": ["", "undo", "can", "can 0 ->", "tell 3 a:1 -> none", "mend 0", "drop -1", "shop big"],
+             "text": ["", "can", "tell 0 a:1 -> none\ncan\nshelf\nundo\nundo\nout", "drop 3\n", "rows\nshop still\nredo"]},
 }
 
 
@@ -109,7 +123,7 @@ def told_things(file, parameter, values):
                          ("better", 3, LOCKS[2], (0, 1, 2)), ("better", 3, LOCKS[2], (2,)), (3,), (2, 3), ((2, 3),), (0, ()),
                          ((0,), (1,), (2,)), ((0, 1, 2),), (0, 1, 2), (2, 1, 0), ("a", "b", "c"), ("app", "lib"),
                          ("stuck", ("b", "c"), ((0, TORN[1][2], (1,)), (2, TORN[0][2], (0,)))), ("back", 0),
-                         ("told", 0, THREE[0]), (("back", 0), ("shift", 1, 5))]
+                         ("told", 0, THREE[0]), (("back", 0), ("shift", 1, 5)), CLAIMS[0], CLAIMS[2], CLAIMS[-1]]
     return values[file][parameter]
 
 
@@ -199,7 +213,7 @@ class CallsTest(unittest.TestCase):
     def test_lists_come_where_several_results_are_told(self):
         lists = {"from_best", "all_locks", "locks_from_best", "all_that_meet", "all_standing", "answers_on",
                  "worn_along", "all_woven", "new_woven", "woven_more", "all_least_bad", "possible_answers", "narrowed_by",
-                 "all_fewest_out", "hit_by", "mirror_shelves", "rivals", "all_ranks"}
+                 "all_fewest_out", "hit_by", "mirror_shelves", "rivals", "all_ranks", "replies"}
         seen = set()
         for function, parameters, arguments in all_calls():
             kind, found = outcome(function, *arguments)[:2]

@@ -49,7 +49,7 @@ class ExamplesTest(unittest.TestCase):
         self.assertEqual({point: points.count(point) for point in points},
                          {"[4]": 8, "[5]": 9, "[6]": 12, "[7]": 10, "[8]": 12, "[9]": 9, "[10]": 9, "[11]": 9,
                           "[12]": 10, "[13]": 11, "[14]": 11, "[15]": 9, "[16]": 13, "[17]": 11, "[18]": 10, "[19]": 13,
-                          "[20]": 11})
+                          "[20]": 11, "[21]": 13, "[22]": 10, "[23]": 6})
 
     def test_what_the_readme_shows(self):
         found = doctest.testfile(str(README), module_relative=False, encoding="utf-8")

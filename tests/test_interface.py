@@ -6,12 +6,12 @@ import inspect
 import pathlib
 import unittest
 
-from helper import ERRORS, INTERFACE
+from helper import CLASSES, ERRORS, INTERFACE
 
 FOLDER = pathlib.Path(__file__).resolve().parent.parent / "lockstold"
 # Each private file stands behind the one of its key.
 PRIVATE = {"errors": ["plain"], "wishes": ["search"], "shelves": ["footing"],
-           "tellings": ["checks", "loom", "rowsets"], "woven": ["lent"]}
+           "tellings": ["checks", "loom", "rowsets"], "woven": ["lent"], "judge": ["words"]}
 ORDER = [own for file in ["errors"] + list(INTERFACE) for own in [file] + PRIVATE.get(file, [])]
 
 
@@ -37,8 +37,23 @@ class InterfaceTest(unittest.TestCase):
                         self.assertEqual(parameter.kind, parameter.POSITIONAL_OR_KEYWORD)
                         self.assertIs(parameter.default, parameter.empty)
 
+    def test_each_class_is_there_with_its_methods(self):
+        for file, classes in CLASSES.items():
+            tree = ast.parse((FOLDER / (file + ".py")).read_text(encoding="ascii"))
+            for name, methods in classes.items():
+                kind = getattr(importlib.import_module("lockstold." + file), name)
+                self.assertEqual(kind.__bases__, (object,))
+                body = next(node.body for node in tree.body if isinstance(node, ast.ClassDef) and node.name == name)
+                defined = [node.name for node in body if isinstance(node, ast.FunctionDef)]
+                self.assertEqual({own for own in defined if not own.startswith("_") or own.startswith("__")}, set(methods))
+                for method, parameters in methods.items():
+                    own = list(inspect.signature(getattr(kind, method)).parameters.values())[1:]
+                    self.assertEqual(tuple(each.name for each in own), parameters, method)
+                    for each in own:
+                        self.assertEqual((each.kind, each.default), (each.POSITIONAL_OR_KEYWORD, each.empty))
+
     def test_each_is_defined_in_its_file(self):
-        for file, names in [("errors", ERRORS)] + list(INTERFACE.items()):
+        for file, names in [("errors", ERRORS)] + list(INTERFACE.items()) + list(CLASSES.items()):
             tree = ast.parse((FOLDER / (file + ".py")).read_text(encoding="ascii"))
             defined = [node.name for node in tree.body if isinstance(node, (ast.FunctionDef, ast.ClassDef))]
             for name in names:
@@ -51,7 +66,7 @@ class InterfaceTest(unittest.TestCase):
             tree = ast.parse((FOLDER / (file + ".py")).read_text(encoding="ascii"))
             public = {node.name for node in tree.body
                       if isinstance(node, (ast.FunctionDef, ast.ClassDef)) and not node.name.startswith("_")}
-            self.assertEqual(public, set(functions))
+            self.assertEqual(public, {*functions, *CLASSES.get(file, ())})
 
     def test_files_draw_from_those_ahead_alone(self):
         for at, file in enumerate(ORDER):

@@ -4,8 +4,9 @@ import itertools
 import unittest
 
 import helper
-from helper import (SHOPS, Dice, JudgeCase, against_ok, lock_ok, mutants, number_ok, plain_bad, plain_beats, plain_has, plain_locks,
-                    plain_names, plain_state, plain_stands, plain_tight, rows_ok, same)
+from helper import (SHOPS, Dice, JudgeCase, against_ok, lock_ok, mutants, number_ok, plain_bad, plain_beats, plain_state, plain_stands,
+                    plain_tight, same)
+from papers import apart_rows_ok, deal_ok, leaving_ok, lenders_ok, papers_apart_ok
 from lockstold.fewrows import is_least_bad
 from lockstold.liars import is_leaving, is_papers_apart
 from lockstold.middles import is_open_triple
@@ -30,33 +31,13 @@ class JudgesTest(JudgeCase):
         growing = (tuple((own, rows[:1]) for own, rows in fine[0]), fine[1])
         for shop, day in (("short", 5), ("growing", 4), ("still", 0), ("short", 1)):
             def wanted(thing):
-                return self.lenders_ok(THREE, shop, day, AC, thing)
+                return lenders_ok(THREE, shop, day, AC, thing)
             seeds = [fine, growing]
             if day == 1:
                 self.assertFalse(any(is_lenders(THREE, shop, day, AC, thing) for seed in seeds for thing in mutants(seed)))
             else:
                 self.check(lambda thing: is_lenders(THREE, shop, day, AC, thing), wanted, seeds)
         self.check(lambda thing: is_lenders(THREE, "short", 0, (), thing), lambda thing: same(thing, ((), ())), [((), ())])
-
-    def lenders_ok(self, telling, shop, day, lock, thing):
-        locks = plain_locks(telling)
-        pairs = [(own, name, plain_state(lock, name)) for own in lock for name in plain_names(telling) if name != own[0]]
-        if type(thing) is not tuple or len(thing) != 2 or not all(type(own) is tuple for own in thing):
-            return False
-        for part, keys in zip(thing, (list(lock), sorted(pairs))):
-            if not all(type(own) is tuple and len(own) == 2 for own in part):
-                return False
-            if not same(tuple(own[0] for own in part), tuple(keys)):
-                return False
-        for own, rows in thing[0]:
-            if type(rows) is not tuple or len(rows) != (2 if shop == "short" else 1):
-                return False
-            if not all(number_ok(at, 0) and at < len(telling) and own in locks[at] for at in rows):
-                return False
-            if shop != "still" and telling[rows[0]][0] > day or shop == "short" and telling[rows[1]][0] < day:
-                return False
-        return all(number_ok(at, 0) and at < len(telling) and pair[0] in locks[at]
-                   and plain_state(locks[at], pair[1]) == pair[2] for pair, at in thing[1])
 
     def test_gaps(self):
         lock = (("a", 1), ("b", 2), ("c", 1))
@@ -115,35 +96,20 @@ class JudgesTest(JudgeCase):
             least = helper.least_of(bad)
             seeds = least + [(0, 1, 4), (2, 4), ()]
             self.check(lambda thing: is_least_bad(HEARD, shop, thing), lambda thing: any(same(thing, own) for own in least), seeds)
-            self.check(lambda thing: is_leaving(HEARD, shop, thing),
-                       lambda thing: rows_ok(thing, 5) and plain_has([HEARD[at] for at in range(5) if at not in thing], shop),
+            self.check(lambda thing: is_leaving(HEARD, shop, thing), lambda thing: leaving_ok(HEARD, shop, thing),
                        [(1, 4), (1, 2, 4), (4,), ()])
-            self.check(lambda thing: is_papers_apart(HEARD, shop, thing), lambda thing: self.papers_ok(bad, thing),
+            self.check(lambda thing: is_papers_apart(HEARD, shop, thing), lambda thing: papers_apart_ok(HEARD, shop, thing),
                        [((0, 1), (4,)), ((1, 2), (4,)), ((4,),), ((0, 1, 2, 3, 4),), ()])
 
     def test_deals_and_rows_apart(self):
         for telling, shop in ((HEARD[:4], "still"), (HEARD[:4], "growing"), (HEARD[:4], "short"), (HEARD, "still")):
-            many, bad = len(telling), plain_bad(telling, shop)
-
-            def deal_ok(thing):
-                return type(thing) is tuple and all(rows_ok(own, many) and own and own not in bad for own in thing) and (
-                    list(thing) == sorted(thing) and sorted(at for own in thing for at in own) == list(range(many)))
-
-            def apart_ok(thing):
-                return rows_ok(thing, many) and all(own in bad for own in itertools.combinations(thing, 2))
-
             seeds = [((0, 2), (1, 3)), ((0,), (1,), (2,), (3,)), ((0, 1, 2, 3),), ((0, 2, 3), (1,)), ((0, 2), (1,), (3, 4))]
-            if many == 4:
-                self.check(lambda thing: is_dealt(telling, shop, thing), deal_ok, seeds)
+            if telling != HEARD:
+                self.check(lambda thing: is_dealt(telling, shop, thing), lambda thing: deal_ok(telling, shop, thing), seeds)
             else:
                 self.assertFalse(any(is_dealt(telling, shop, thing) for seed in seeds for thing in mutants(seed)))
-            self.check(lambda thing: is_apart_rows(telling, shop, thing), apart_ok, [(0, 1), (1, 2), (0, 1, 4), (3,), ()])
-
-    def papers_ok(self, bad, thing):
-        if type(thing) is not tuple or not all(rows_ok(own, 5) and own in bad for own in thing):
-            return False
-        rows = [at for own in thing for at in own]
-        return list(thing) == sorted(set(thing)) and len(set(rows)) == len(rows)
+            self.check(lambda thing: is_apart_rows(telling, shop, thing), lambda thing: apart_rows_ok(telling, shop, thing),
+                       [(0, 1), (1, 2), (0, 1, 4), (3,), ()])
 
     def test_open_triples(self):
         locks = (("a", 1), ("b", 2)), (("a", 2), ("c", 1))

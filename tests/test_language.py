@@ -14,7 +14,8 @@ STATEMENTS = (ast.Assign, ast.AugAssign, ast.If, ast.While, ast.For, ast.Return,
 BUILTINS = set("""len range enumerate zip min max sum abs sorted reversed int str bool list tuple dict set isinstance ord
     repr any all divmod ValueError LookupError KeyError""".split())
 METHODS = set("""add append bit_length count discard endswith extend find get index insert isalpha isdigit items join keys pop replace setdefault
-    split splitlines startswith strip values __init__""".split())
+    partition split splitlines startswith strip values __init__""".split())
+OWN_METHODS = set("do undo redo twin telling shop can_be tight rows_out may_tell _add".split())
 WORDS = set("""type typing enum Enum Flag Generic Protocol ABC namedtuple dataclass overload contextmanager register mro
     elements open input law""".split())
 
@@ -97,7 +98,28 @@ class LanguageTest(unittest.TestCase):
             for node in tree.body[1:]:
                 self.assertIsInstance(node, (ast.ImportFrom, ast.FunctionDef, ast.ClassDef, ast.Assign), name)
                 if isinstance(node, ast.Assign):
-                    ast.literal_eval(node.value)
+                    self.check_plain(node, [own.name for own in tree.body if isinstance(own, ast.FunctionDef)
+                                            and own.lineno < node.lineno], name)
+
+    def check_plain(self, node, functions, name):
+        """A plain value, or a dict of functions that are defined above it."""
+        self.assertEqual([type(own) for own in node.targets], [ast.Name], name)
+        values = node.value.values if isinstance(node.value, ast.Dict) else [node.value]
+        for own in values:
+            if isinstance(own, ast.Name):
+                self.assertIn(own.id, functions, name)
+            else:
+                ast.literal_eval(own)
+        self.assertFalse([own for own in ast.walk(node.value) if isinstance(own, (ast.List, ast.Dict)) and own is not node.value])
+
+    def test_l3_what_is_called_from_a_table_has_a_name_first(self):
+        for name, node in nodes(ast.Call):
+            self.assertIsInstance(node.func, (ast.Name, ast.Attribute), (name, node.lineno))
+
+    def test_l7_stars_stand_before_names(self):
+        for name, node in nodes(ast.Call):
+            for own in [own.value for own in node.args if isinstance(own, ast.Starred)]:
+                self.assertIsInstance(own, ast.Name, (name, node.lineno))
 
     def test_l4_no_decorators_no_defaults(self):
         for name, node in nodes(ast.FunctionDef, ast.ClassDef):
@@ -131,7 +153,7 @@ class LanguageTest(unittest.TestCase):
         for name, tree in trees():
             for node in ast.walk(tree):
                 own = {getattr(node, key, None) for key in ("id", "arg", "attr", "name")}
-                own = {word for word in own if isinstance(word, str)} - {"__init__"}
+                own = {word for word in own if isinstance(word, str)} - {"__init__", "__len__", "__eq__"}
                 self.assertFalse(own & WORDS, name)
                 self.assertFalse({word for word in own if word.startswith("__")}, name)
 
@@ -179,7 +201,31 @@ class LanguageTest(unittest.TestCase):
     def test_l25_methods(self):
         for name, node in nodes(ast.Call):
             if isinstance(node.func, ast.Attribute):
-                self.assertIn(node.func.attr, METHODS, (name, node.lineno))
+                self.assertIn(node.func.attr, METHODS | OWN_METHODS, (name, node.lineno))
+
+    def test_l18_l26_no_method_is_an_attribute(self):
+        methods = {node.name for _, tree in trees() for own in tree.body if isinstance(own, ast.ClassDef) for node in own.body
+                   if isinstance(node, ast.FunctionDef)}
+        self.assertTrue(OWN_METHODS <= methods)
+        self.assertFalse(OWN_METHODS & METHODS)
+        for name, node in nodes(ast.Attribute):
+            if isinstance(node.ctx, ast.Store):
+                self.assertNotIn(node.attr, methods, (name, node.lineno))
+
+    def test_l19_what_is_caught(self):
+        errors = {node.name for name, tree in trees() if name == "errors.py" for node in tree.body if isinstance(node, ast.ClassDef)}
+        for name, node in nodes(ast.ExceptHandler):
+            self.assertIn(node.type.id, errors, (name, node.lineno))
+            self.assertIsNone(node.name)
+
+    def test_l28_double_underscore_methods(self):
+        found = {(name, node.name): node for name, node in nodes(ast.FunctionDef) if node.name.startswith("__")}
+        for (name, own), node in found.items():
+            if own != "__init__":
+                self.assertEqual([type(each) for each in node.body], [ast.Return], (name, own))
+        length, alike = found["yard.py", "__len__"].body[0].value, found["yard.py", "__eq__"].body[0].value
+        self.assertEqual(length.func.id, "len")
+        self.assertTrue(ast.unparse(alike).startswith("isinstance(other, Yard) and "))
 
     def test_l27_strings(self):
         for name, node in nodes(ast.Constant):

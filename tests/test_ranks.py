@@ -4,9 +4,9 @@ import functools
 import itertools
 import unittest
 
-from helper import (SHOPS, Dice, JudgeCase, lock_ok, locks_over, mutants, name_ok, number_ok, outcome, plain_all_woven, plain_met,
-                    plain_standing, plain_state, plain_unmet, plain_woven, rows_ok, same)
+from helper import SHOPS, Dice, JudgeCase, locks_over, mutants, outcome, plain_all_woven, plain_met, plain_standing, same
 from histories import all_histories, made_up_telling
+from papers import best_by, plain_fits, plain_names_of, plain_ranks, rank_ok, rank_paper_ok
 from lockstold.errors import CanNot, NoPaper, NoRow
 from lockstold.ranks import (all_ranks, answer_by, can_be_first, fits_rank, is_rank, is_rank_paper, least_rank, rank_paper, rivals,
                              sure_ahead)
@@ -17,42 +17,6 @@ ONE, TWO, MIX = (("a", 1), ("b", 1), ("c", 2)), (("a", 1), ("b", 2), ("c", 1)), 
 HEARD = ((0, MIX, ONE), (1, (("b", (2,)), ("a", (1,))), TWO))
 TORN = HEARD + ((2, MIX, TWO),)
 STUCK = ("stuck", ("b", "c"), ((0, TWO, (1,)), (2, ONE, (0,))))
-
-
-def plain_names_of(telling):
-    return tuple(sorted({name for row in telling for name, _ in row[1] + (row[2] or ())}))
-
-
-def state_better(one, other):
-    """Of two unlike STATES."""
-    return one == 0 or (other > 0 and one > other)
-
-
-def better_by(wish, rank, lock, far):
-    names = [name for name, _ in wish]
-    names += [name for name in rank if name not in names]
-    names += sorted({name for name, _ in lock + far} - set(names))
-    for name in names:
-        one, other = plain_state(lock, name), plain_state(far, name)
-        if one != other:
-            return state_better(one, other)
-    return False
-
-
-def best_by(wish, rank, locks):
-    fit = [lock for lock in locks if plain_met(wish, lock)]
-    return next((lock for lock in fit if not any(better_by(wish, rank, far, lock) for far in fit)), None)
-
-
-def plain_fits(telling, shop, rank):
-    for row in telling:
-        if plain_unmet(row) or best_by(row[1], rank, plain_all_woven(telling, shop, row[0])) != row[2]:
-            return False
-    return True
-
-
-def plain_ranks(telling, shop):
-    return [own for own in itertools.permutations(plain_names_of(telling)) if plain_fits(telling, shop, own)]
 
 
 def made_up(many, seed, lies=0.2):
@@ -97,56 +61,6 @@ def bound_shelf(dice):
     return tuple(found)
 
 
-def rival_ok(telling, shop, thing):
-    """Whether thing is (row, lock, rows), lock a RIVAL of this ROW woven of these alone."""
-    if type(thing) is not tuple or len(thing) != 3 or not number_ok(thing[0], 0) or thing[0] >= len(telling):
-        return False
-    row = telling[thing[0]]
-    if not lock_ok(thing[1]) or not rows_ok(thing[2], len(telling)) or thing[1] == row[2] or not plain_met(row[1], thing[1]):
-        return False
-    return plain_woven([telling[at] for at in thing[2]], shop, row[0], thing[1])
-
-
-def unlike_in(names, lock, far):
-    return [name for name in names if plain_state(lock, name) != plain_state(far, name)]
-
-
-def ahead_ok(row, lock):
-    if row[2] is None:
-        return True
-    unlike = unlike_in([name for name, _ in row[1]], lock, row[2])
-    return bool(unlike) and state_better(plain_state(lock, unlike[0]), plain_state(row[2], unlike[0]))
-
-
-def wins_and_loses(row, lock):
-    """The NAMES at which an open RIVAL wins and loses, None if it is not open."""
-    if row[2] is None or unlike_in([name for name, _ in row[1]], lock, row[2]):
-        return None
-    unlike = unlike_in(sorted({name for name, _ in lock + row[2]}), lock, row[2])
-    wins = [name for name in unlike if state_better(plain_state(lock, name), plain_state(row[2], name))]
-    return wins, [name for name in unlike if name not in wins]
-
-
-def paper_ok(telling, shop, thing):
-    """Whether thing is a RANK PAPER, by the words of [18]."""
-    if type(thing) is not tuple or len(thing) < 2 or type(thing[0]) is not str:
-        return False
-    if thing[0] == "unmet":
-        return len(thing) == 2 and number_ok(thing[1], 0) and thing[1] < len(telling) and plain_unmet(telling[thing[1]])
-    if thing[0] == "ahead":
-        return rival_ok(telling, shop, thing[1:]) and ahead_ok(telling[thing[1]], thing[2])
-    if thing[0] != "stuck" or len(thing) != 3 or not all(type(own) is tuple for own in thing[1:]):
-        return False
-    _, names, loses = thing
-    if not names or not all(name_ok(own) for own in names) or list(names) != sorted(set(names)) or len(loses) != len(names):
-        return False
-    for name, own in zip(names, loses):
-        found = wins_and_loses(telling[own[0]], own[1]) if rival_ok(telling, shop, own) else None
-        if found is None or name not in found[0] or not set(found[1]) <= set(names):
-            return False
-    return True
-
-
 @functools.lru_cache(None)
 def answer_among(locks, wish, rank):
     return best_by(wish, rank, locks)
@@ -179,7 +93,7 @@ class RanksTest(unittest.TestCase):
         for function in (least_rank, sure_ahead, can_be_first):
             self.assertEqual(outcome(function, telling, shop), ("raised", "CanNot", {}))
         found = rank_paper(telling, shop)
-        self.assertTrue(paper_ok(telling, shop, found), (telling, shop, found))
+        self.assertTrue(rank_paper_ok(telling, shop, found), (telling, shop, found))
         self.assertIs(is_rank_paper(telling, shop, found), True)
 
     def test_beside_all_shelves(self):
@@ -282,16 +196,15 @@ class AnswerByTest(unittest.TestCase):
 class JudgesTest(JudgeCase):
 
     def test_ranks(self):
-        self.check(lambda thing: is_rank(HEARD, thing),
-                   lambda thing: type(thing) is tuple and all(name_ok(own) for own in thing) and sorted(thing) == ["a", "b", "c"],
+        self.check(lambda thing: is_rank(HEARD, thing), lambda thing: rank_ok(HEARD, thing),
                    list(itertools.permutations("abc")) + [("a", "b"), ("a", "b", "c", "d"), ("a", "a", "b", "c")])
 
     def test_rank_papers(self):
         seeds = [STUCK, ("stuck", ("c",), ((2, ONE, (0,)),)), ("ahead", 3, ONE, (0,)), ("ahead", 4, (("a", 1),), (5,)), ("unmet", 5)]
         telling = TORN + ((2, (("b", (1, 2)),), None), (2, (("c", (1, 2)), ("a", (1, 2))), (("c", 2),)), (2, MIX, (("c", 3),)))
         for shop in SHOPS:
-            self.check(lambda thing: is_rank_paper(telling, shop, thing), lambda thing: paper_ok(telling, shop, thing), seeds)
-        self.check(lambda thing: is_rank_paper(TORN, "still", thing), lambda thing: paper_ok(TORN, "still", thing), [STUCK])
+            self.check(lambda thing: is_rank_paper(telling, shop, thing), lambda thing: rank_paper_ok(telling, shop, thing), seeds)
+        self.check(lambda thing: is_rank_paper(TORN, "still", thing), lambda thing: rank_paper_ok(TORN, "still", thing), [STUCK])
         for thing in mutants(STUCK):
             self.assertIs(is_rank_paper(HEARD, "still", thing), False)
 
@@ -316,7 +229,7 @@ class JudgesTest(JudgeCase):
             for at, lock in itertools.product(range(len(telling)), locks):
                 for thing in (("unmet", at), ("ahead", at, lock, tuple(range(len(telling))))):
                     found = is_rank_paper(telling, shop, thing)
-                    self.assertIs(found, paper_ok(telling, shop, thing))
+                    self.assertIs(found, rank_paper_ok(telling, shop, thing))
                     self.assertFalse(found and fit)
                     many += found
         self.assertGreater(many, 20)

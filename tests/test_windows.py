@@ -3,9 +3,9 @@
 import itertools
 import unittest
 
-from helper import (SHOPS, Dice, JudgeCase, all_sets, number_ok, outcome, plain_all_woven, plain_beats, plain_has, plain_there,
-                    plain_tight, plain_unmet, rows_ok)
+from helper import SHOPS, Dice, JudgeCase, all_sets, outcome, plain_all_woven, plain_beats, plain_has, plain_there, plain_tight
 from histories import RELEASES, all_histories, all_shelves, answer_among, has_on, made_up_telling, shelf_tells
+from papers import day_knot_ok, day_order_ok, plain_knot, plain_order
 from lockstold.errors import CanNot, NoPaper, NoRow
 from lockstold.windows import (day_knot, day_order, days_for, earliest_day, gone_rows, is_day_knot, is_day_order, latest_day,
                                shop_needed, window_of)
@@ -39,25 +39,6 @@ def wide(many, seed, rows=4, days=6):
 
 def told_releases(telling):
     return sorted({own for row in telling if row[2] for own in row[2]})
-
-
-def plain_lost(telling, at):
-    """Whether the ROW is one of an AGAINST by "growing"."""
-    row = telling[at]
-    return plain_unmet(row) or any(plain_beats(lock, row) for lock in plain_all_woven(telling, "growing", row[0]))
-
-
-def with_days(telling, days):
-    return tuple((day,) + row[1:] for day, row in zip(days, telling))
-
-
-def plain_order(telling, order):
-    return plain_has(with_days(telling, [order.index(at) for at in range(len(telling))]), "growing")
-
-
-def plain_knot(telling, rows):
-    other = with_days(telling, [0 if at in rows else 1 for at in range(len(telling))])
-    return bool(rows) and all(plain_lost(other, at) for at in rows)
 
 
 class DaysTest(unittest.TestCase):
@@ -246,14 +227,10 @@ class OrdersTest(JudgeCase):
         self.assertEqual(day_knot(((0, EITHER, (("b", 1),)),) * 12), tuple(range(12)))
 
     def test_judges(self):
-        def order_ok(thing):
-            return type(thing) is tuple and all(number_ok(own, 0) for own in thing) and (
-                sorted(thing) == [0, 1, 2] and plain_order(BACK, thing))
-
-        self.check(lambda thing: is_day_order(BACK, thing), order_ok, list(itertools.permutations(range(3))) + [(0, 1, 2, 3)])
+        self.check(lambda thing: is_day_order(BACK, thing), lambda thing: day_order_ok(BACK, thing), list(itertools.permutations(range(3))) + [(0, 1, 2, 3)])
         self.check(lambda thing: is_day_order((), thing), lambda thing: type(thing) is tuple and thing == (), [()])
         knotted = CROSS + ((2, EITHER, (("b", 1),)), (3, (), ()))
-        self.check(lambda thing: is_day_knot(knotted, thing), lambda thing: rows_ok(thing, 4) and plain_knot(knotted, thing),
+        self.check(lambda thing: is_day_knot(knotted, thing), lambda thing: day_knot_ok(knotted, thing),
                    [(0, 1), (0, 1, 2), (2,), (2, 3), ()])
 
     def test_errors(self):
