@@ -2,9 +2,10 @@
 
 from lockstold.checks import SHOPS, check_few, check_rows, fit_telling
 from lockstold.errors import CanNot, Unfit
+from lockstold.families import least_bad_sets
 from lockstold.loom import Loom, all_bits
 from lockstold.plain import frozen, is_number, is_number_from, is_number_set, is_rows_of
-from lockstold.rowsets import all_bad, are_bad, are_least_bad, bits_of, least_of_bad, rows_of_bits
+from lockstold.rowsets import are_bad, are_least_bad, bits_of, rows_of_bits
 from lockstold.told import is_against
 
 
@@ -24,7 +25,7 @@ def all_least_bad(telling, shop):
     """All least bad sets of ROWS, ascending."""
     held = fit_telling(telling, shop)
     check_few(held)
-    return sorted([rows_of_bits(bits) for bits in least_of_bad(all_bad(Loom(held, shop)))])
+    return sorted([rows_of_bits(bits) for bits in least_bad_sets(Loom(held, shop))])
 
 
 def least_bad(telling, shop):

@@ -2,9 +2,10 @@
 
 from lockstold.checks import check_few, check_rows
 from lockstold.errors import CanNot, Unfit
+from lockstold.families import bad_family, families_having, largest_of, least_bad_sets, members, whole_family
 from lockstold.loom import Loom, all_bits
 from lockstold.plain import ascends, is_number_from, is_rows_of
-from lockstold.rowsets import all_bad, are_bad, bits_of, least_of_bad, rows_of_bits
+from lockstold.rowsets import are_bad, bits_of, rows_of_bits
 
 
 def fewest_out(telling, shop):
@@ -42,32 +43,29 @@ def trusted(telling, shop):
 def hit_by(telling, shop, number):
     """The least bad sets that have the ROW of this number, ascending."""
     check_rows(telling, (number,))
-    found = [rows_of_bits(bits) for bits in least_of_bad(_bad_by_bits(telling, shop))]
-    return sorted([own for own in found if number in own])
+    found = _least_bad_of_few(telling, shop)
+    return sorted([rows_of_bits(bits) for bits in found if bits >> number & 1])
 
 
 def out_for(telling, shop, kept):
     """How many ROWS have to be left out if none of kept is."""
     check_rows(telling, kept)
-    bits = bits_of(kept)
-    many = [len(own) for own in _leavings(telling, shop) if bits_of(own) & bits == 0]
-    # No LEAVING spares kept exactly if kept is bad itself.
-    if many == []:
+    fit, many = _told_family(telling, shop), len(telling)
+    for number in kept:
+        fit = fit & families_having(many)[number]
+    # Some SHELF tells some ROWS with kept among them exactly if kept is not bad itself.
+    if fit == 0:
         raise CanNot()
-    return min(many)
+    return many - len(rows_of_bits(largest_of(fit, many)[0]))
 
 
 def papers_apart(telling, shop):
     """As many least bad sets as can be, no ROW in two."""
-    bad = _bad_by_bits(telling, shop)
-    least = least_of_bad(bad)
-    # For each set of ROWS the most that stand in it: the greatest ROW of it is in none, or in one of them.
-    most = [()]
-    for bits in range(1, len(bad)):
-        top = 1 << bits.bit_length() - 1
-        within = [own for own in least if own & top and own & bits == own]
-        most.append(max([most[bits ^ top]] + [most[bits ^ own] + (own,) for own in within], key=len))
-    return tuple(sorted([rows_of_bits(own) for own in most[-1]]))
+    least = {at: [] for at in range(len(telling))}
+    for bits in _least_bad_of_few(telling, shop):
+        least[bits.bit_length() - 1].append(bits)
+    found = _most_apart(least, (1 << len(telling)) - 1, {})
+    return tuple(sorted([rows_of_bits(own) for own in found]))
 
 
 def is_papers_apart(telling, shop, thing):
@@ -81,25 +79,41 @@ def is_papers_apart(telling, shop, thing):
 
 def cheapest_out(telling, shop, doubts):
     """The least that the doubts of the ROWS of a LEAVING add up to."""
-    found = _leavings(telling, shop)
+    told = _told_family(telling, shop)
     if len(doubts) != len(telling) or not all([is_number_from(1, own) for own in doubts]):
         raise Unfit()
-    return min([sum([doubts[number] for number in own]) for own in found])
+    # For each set of ROWS, at the place that is its number, what their doubts add up to.
+    sums = [0]
+    for own in doubts:
+        sums = sums + [own + other for other in sums]
+    return sums[-1] - max([sums[bits] for bits in members(told)])
 
 
-def _bad_by_bits(telling, shop):
+def _least_bad_of_few(telling, shop):
     check_few(telling)
-    return all_bad(Loom(telling, shop))
+    return least_bad_sets(Loom(telling, shop))
 
 
-def _leavings(telling, shop):
-    """All LEAVINGS."""
-    bad = _bad_by_bits(telling, shop)
-    whole = len(bad) - 1
-    return [rows_of_bits(whole ^ bits) for bits, own in enumerate(bad) if not own]
+def _told_family(telling, shop):
+    """The family of the sets of ROWS that some SHELF tells: all others are a LEAVING."""
+    check_few(telling)
+    return whole_family(len(telling)) ^ bad_family(Loom(telling, shop))
 
 
 def _fewest_leavings(telling, shop):
-    found = _leavings(telling, shop)
-    fewest = min([len(own) for own in found])
-    return sorted([own for own in found if len(own) == fewest])
+    many = len(telling)
+    found = largest_of(_told_family(telling, shop), many)
+    return sorted([rows_of_bits((1 << many) - 1 ^ bits) for bits in found])
+
+
+def _most_apart(least, bits, known):
+    """As many sets of least as can be, by the greatest ROW of each, that are within bits, no ROW in two."""
+    if bits == 0:
+        return ()
+    if bits not in known:
+        # The greatest ROW of bits is in none of them, or in one.
+        top = bits.bit_length() - 1
+        found = [_most_apart(least, bits ^ 1 << top, known)]
+        found.extend([_most_apart(least, bits ^ own, known) + (own,) for own in least[top] if own & bits == own])
+        known[bits] = max(found, key=len)
+    return known[bits]

@@ -2,9 +2,10 @@
 
 from lockstold.checks import check_few, check_most, check_rows
 from lockstold.errors import CanNot, Unfit
+from lockstold.families import bad_family, least_bad_sets
 from lockstold.loom import Loom
 from lockstold.plain import ascends, frozen, is_rows_of
-from lockstold.rowsets import all_bad, are_bad, bits_of, least_of_bad, rows_of_bits, with_greatest
+from lockstold.rowsets import are_bad, bits_of, rows_of_bits, with_greatest
 from lockstold.told import tight_shelf
 
 MOST_DEALT = 7
@@ -64,7 +65,7 @@ def same_mirror(telling, shop, number, other):
 def shared_by_all(telling, shop):
     """The ROWS that no least bad set has."""
     check_few(telling)
-    bad_rows = {at: True for bits in least_of_bad(all_bad(Loom(telling, shop))) for at in rows_of_bits(bits)}
+    bad_rows = {at: True for bits in least_bad_sets(Loom(telling, shop)) for at in rows_of_bits(bits)}
     return tuple([at for at in range(len(telling)) if at not in bad_rows])
 
 
@@ -102,7 +103,8 @@ def mirror_shelves(telling, shop, deal):
 def _bad_to_deal(telling, shop):
     """For each set of ROWS whether it is bad, if these are few enough to go through all DEALS."""
     check_most(telling, MOST_DEALT)
-    return all_bad(Loom(telling, shop))
+    bad = bad_family(Loom(telling, shop))
+    return [bad >> bits & 1 == 1 for bits in range(1 << len(telling))]
 
 
 def _fewest_parts(bad):

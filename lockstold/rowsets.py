@@ -40,16 +40,3 @@ def are_bad(loom, bits):
 def are_least_bad(loom, bits):
     # What has a bad part is bad: it is enough to leave out one ROW each.
     return are_bad(loom, bits) and not any([are_bad(loom, own) for own in lesser_by_one(bits)])
-
-
-def all_bad(loom):
-    """For each set of ROWS, told by its bits, whether it is bad."""
-    bad = [False]
-    for bits in range(1, 1 << len(loom.rows)):
-        bad.append(any([bad[own] for own in lesser_by_one(bits)]) or are_bad(loom, bits))
-    return bad
-
-
-def least_of_bad(bad):
-    """The bits of those sets of which no lesser part is bad."""
-    return [bits for bits, own in enumerate(bad) if own and not any([bad[part] for part in lesser_by_one(bits)])]

@@ -127,6 +127,51 @@ class BadSetsTest(unittest.TestCase):
         self.assertIs(is_least_bad(((0, (), ()),) + (LIE,), "still", (True,)), False)
 
 
+class TenRowsTest(unittest.TestCase):
+    """As many ROWS as all sets are gone through of: beside each set asked for itself."""
+
+    def telling_of(self, dice):
+        """Ten ROWS of which many weave others, most with a WISH that their answer meets."""
+        names, most = dice.pick(("a", "ab", "abc", "abcde")), dice.pick((1, 2, 3))
+        rows = []
+        for _ in range(10):
+            lock = tuple((name, dice.rolls.randint(1, most)) for name in dice.some(names, 1))
+            name, version = dice.pick(lock)
+            wish = ((name, dice.pick(((version,), tuple(range(1, most + 1))))),)
+            rows.append((dice.rolls.randint(0, dice.pick((0, 3))), wish, dice.pick((lock,) * 9 + (None,))))
+        return tuple(rows)
+
+    def test_beside_each_set(self):
+        dice, seen = Dice(78), set()
+        for at in range(9):
+            telling, shop = self.telling_of(dice), SHOPS[at % 3]
+            bad = [own for own in all_sets(10) if is_bad(telling, shop, own)]
+            wanted = sorted(own for own in bad if not any(own[:k] + own[k + 1:] in bad for k in range(len(own))))
+            self.assertEqual(all_least_bad(telling, shop), wanted, (telling, shop))
+            for row in range(10):
+                self.assertIs(hurts(telling, shop, row), any(row in own for own in wanted))
+            seen.add(len(wanted) > 5)
+        self.assertEqual(seen, {True, False})
+
+    def test_by_hand(self):
+        either = (("lib", (1, 2)),)
+        ten = tuple((day, either, (("lib", 1),)) for day in range(10))
+        half = tuple((day, either, (("lib", 1 + day // 5),)) for day in range(10))
+        for shop in SHOPS:
+            self.assertEqual((all_least_bad(ten, shop), hurts(ten, shop, 9)), ([], False))
+            self.assertEqual(all_least_bad(half[:5] + half[:5], shop), [])
+        pairs = [(one, two) for one in range(5) for two in range(5, 10)]
+        self.assertEqual((all_least_bad(half, "still"), all_least_bad(half, "growing"), all_least_bad(half, "short")), (pairs, [], []))
+        self.assertEqual(all_least_bad(half[::-1], "growing"), [])
+        turned = tuple((9 - day,) + row[1:] for day, row in enumerate(half))
+        self.assertEqual((all_least_bad(turned, "growing"), all_least_bad(turned, "short")), (pairs, []))
+        by_turns = tuple((day, either, (("lib", 1 + day % 2),)) for day in range(10))
+        self.assertEqual(all_least_bad(by_turns, "short"), sorted(
+            (one, two, three) for one, two, three in itertools.combinations(range(10), 3)
+            if one % 2 == 1 and two % 2 == 0 and three % 2 == 1))
+        self.assertEqual(all_least_bad((LIE,) * 10, "short"), [(at,) for at in range(10)])
+
+
 class RowBoundTest(unittest.TestCase):
 
     def test_beside_the_greatest_number_for_some_p(self):

@@ -11,7 +11,7 @@ from helper import CLASSES, ERRORS, INTERFACE
 FOLDER = pathlib.Path(__file__).resolve().parent.parent / "lockstold"
 # Each private file stands behind the one of its key.
 PRIVATE = {"errors": ["plain"], "wishes": ["search"], "shelves": ["footing"],
-           "tellings": ["checks", "loom", "rowsets"], "woven": ["lent"], "judge": ["words"]}
+           "tellings": ["checks", "loom", "rowsets", "families"], "woven": ["lent"], "judge": ["words"]}
 ORDER = [own for file in ["errors"] + list(INTERFACE) for own in [file] + PRIVATE.get(file, [])]
 
 

@@ -127,6 +127,38 @@ class LeavingsTest(unittest.TestCase):
             self.assertIs(is_leaving(LYING, "still", flawed), False, flawed)
 
 
+class TenRowsTest(unittest.TestCase):
+
+    def test_beside_all_sets(self):
+        either, dice = (("lib", (1, 2, 3)),), Dice(109)
+        for shop in SHOPS * 2:
+            telling = tuple((dice.rolls.randint(0, 3), either, (("lib", dice.rolls.randint(1, 3)),)) for _ in range(9)) + (LIE,)
+            found = [own for own in all_sets(10) if is_leaving(telling, shop, own)]
+            fewest = min(map(len, found))
+            self.assertEqual((fewest_out(telling, shop), all_fewest_out(telling, shop)),
+                             (fewest, sorted(own for own in found if len(own) == fewest)))
+            for kept in ((0,), (1, 2), (3, 5, 8)):
+                many = [len(own) for own in found if not set(own) & set(kept)]
+                self.assertEqual(outcome(out_for, telling, shop, kept), ("gave", min(many)) if many else ("raised", "CanNot", {}))
+            doubts = tuple(dice.rolls.randint(1, 9) for _ in telling)
+            self.assertEqual(cheapest_out(telling, shop, doubts), min(sum(doubts[at] for at in own) for own in found))
+            least = [hit for at in range(10) for hit in hit_by(telling, shop, at) if hit[0] == at]
+            bad = [own for own in all_sets(10) if not is_leaving(telling, shop, rest_of(own, 10))]
+            self.assertEqual(least, least_of(bad))
+            self.assertEqual(len(papers_apart(telling, shop)), most_apart(least))
+
+    def test_as_many_pairs_as_can_be(self):
+        telling = tuple((0, (("a", tuple(range(1, 11))),), (("a", version),)) for version in range(1, 11))
+        self.assertEqual((fewest_out(telling, "still"), len(all_fewest_out(telling, "short")), suspects(telling, "growing")),
+                         (9, 10, tuple(range(10))))
+        self.assertEqual(sorted(at for own in papers_apart(telling, "still") for at in own), list(range(10)))
+        none = tuple((day, (("a", (1, 2)),), (("a", 1),)) for day in range(10))
+        for shop in SHOPS:
+            self.assertEqual((all_fewest_out(none, shop), papers_apart(none, shop), trusted(none, shop), blamed(none, shop)),
+                             ([()], (), tuple(range(10)), ()))
+            self.assertEqual((out_for(none, shop, (0, 9)), cheapest_out(none, shop, (3,) * 10), hit_by(none, shop, 9)), (0, 0, []))
+
+
 class PapersApartTest(unittest.TestCase):
 
     def test_as_many_as_can_be(self):
