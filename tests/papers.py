@@ -2,9 +2,8 @@
 
 import itertools
 
-from helper import (against_ok, locks_over, lock_ok, name_ok, number_ok, plain_all_woven, plain_answer, plain_bad, plain_beats,
-                    plain_has, plain_locks, plain_met, plain_names, plain_standing, plain_state, plain_unmet, plain_woven, release_ok,
-                    rows_ok, same, shelf_ok, wish_ok)
+from helper import (lock_ok, name_ok, number_ok, plain_all_woven, plain_answer, plain_beats, plain_has, plain_locks, plain_met,
+                    plain_names, plain_standing, plain_state, plain_unmet, plain_woven, rows_ok, same, shelf_ok)
 
 
 def plain_names_of(telling):

@@ -7,6 +7,7 @@ from helper import SHOPS, Dice, all_sets, least_of, outcome, plain_bad
 from lockstold.errors import CanNot, NoRow, TooMany, Unfit
 from lockstold.liars import (all_fewest_out, blamed, cheapest_out, fewest_out, hit_by, is_leaving, is_papers_apart, out_for,
                              papers_apart, suspects, trusted)
+from papers import rest_of
 
 PLAIN, FRESH = (("cup", 1), ("tea", 1)), (("cup", 2), ("tea", 1))
 HEARD = ((0, (("tea", (1,)),), PLAIN), (1, (("tea", (1,)),), FRESH), (2, (("cup", (1, 2)),), (("cup", 1),)), (3, (), ()))
@@ -21,10 +22,6 @@ def made_up(many, seed, rows=5):
         shop = dice.pick(SHOPS)
         names = dice.pick((("a", "b"), ("a", "b", "c")))
         yield shop, dice.telling(names, rows=rows, lies=0.6, shop=dice.pick((shop, None)))
-
-
-def rest_of(rows, many):
-    return tuple(at for at in range(many) if at not in rows)
 
 
 def plain_leavings(telling, shop):

@@ -6,7 +6,7 @@ import unittest
 
 from helper import SHOPS, Dice, JudgeCase, locks_over, mutants, outcome, plain_all_woven, plain_met, plain_standing, same
 from histories import all_histories, made_up_telling
-from papers import best_by, plain_fits, plain_names_of, plain_ranks, rank_ok, rank_paper_ok
+from papers import best_by, plain_names_of, plain_ranks, rank_ok, rank_paper_ok
 from lockstold.errors import CanNot, NoPaper, NoRow
 from lockstold.ranks import (all_ranks, answer_by, can_be_first, fits_rank, is_rank, is_rank_paper, least_rank, rank_paper, rivals,
                              sure_ahead)

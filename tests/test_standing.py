@@ -3,7 +3,7 @@
 import unittest
 
 from helper import (Dice, days_that_matter, locks_over, outcome, plain_answer, plain_standing, plain_stands, plain_state,
-                    plain_there, versions_of, wishes_over)
+                    plain_there, wishes_over)
 from lockstold.errors import CanNot, NoPaper, TooMany
 from lockstold.standing import (all_standing, answer_of, answers_on, can_be_there, can_be_together, how_many_stand,
                                 is_why_falls, needed_by, never_there, stands, why_falls)

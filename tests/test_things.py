@@ -11,6 +11,7 @@ from lockstold.states import is_lot, is_name, is_release, is_rules
 from lockstold.tellings import is_row, is_telling
 from lockstold.wishes import is_wish
 from lockstold.worn import is_parting_wish, is_worn, told_by_wish
+from papers import plain_worn
 
 LONG, WIDE = "abcdefghijkl", 10 ** 40
 
@@ -101,15 +102,7 @@ def plainly_worn(thing):
     """Whether thing is a still SHELF, and its own WORN form, by the words of [9]."""
     if not helper.shelf_ok(thing) or any(own[2:] != (0, None) for own in thing):
         return False
-    locks = helper.plain_standing(thing, 0)
-    releases = sorted({own for lock in locks for own in lock})
-    names = sorted({name for name, _ in releases})
-    form = []
-    for own in releases:
-        rules = tuple((name, tuple(sorted({helper.plain_state(lock, name) for lock in locks if own in lock})))
-                      for name in names if name != own[0])
-        form.append((own, rules, 0, None))
-    return tuple(form) == thing
+    return plain_worn(thing, 0) == thing
 
 
 if __name__ == "__main__":

@@ -4,7 +4,7 @@ import unittest
 
 from helper import (Dice, days_that_matter, locks_over, outcome, plain_answer, plain_best, plain_met, plain_standing,
                     plain_state, versions_of, wish_ok, wishes_over)
-from lockstold.errors import CanNot, NoPaper, TooMany
+from lockstold.errors import CanNot, NoPaper
 from lockstold.standing import all_standing
 from lockstold.worn import (alike_on, days_alike, is_parting_wish, is_worn, parting_day, parting_wish, told_by_wish, worn,
                             worn_along, worn_pairs)

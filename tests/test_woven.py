@@ -8,6 +8,7 @@ from helper import (SHOPS, Dice, locks_over, outcome, plain_all_woven, plain_bes
 from lockstold.errors import NoPaper
 from lockstold.woven import (all_woven, best_woven, gap, is_gap, is_lenders, is_woven, lenders, new_woven, rows_lent,
                              woven_days, woven_more)
+from papers import all_gaps
 
 LOCKS = locks_over({"a": [1, 2], "b": [1, 2], "c": [1], "z": [1]})
 LONG = "abcdefghijkl"
@@ -18,24 +19,6 @@ THREE = ((2, (), AB), (4, (), BC), (6, (), AC))
 def made_up(many=15, seed=41, rows=5):
     dice = Dice(seed)
     return [(), ((2, (), None),), THREE] + [dice.telling(rows=rows, lies=0.5) for _ in range(many)]
-
-
-def plain_gaps(telling, shop, day, lock):
-    found, locks = [], plain_locks(telling)
-    for own in lock:
-        days = [row[0] for row, other in zip(telling, locks) if own in other]
-        if not days:
-            found.append(("never", own))
-            continue
-        if shop in ("growing", "short") and all(told > day for told in days):
-            found.append(("early", own))
-        if shop == "short" and all(told < day for told in days):
-            found.append(("late", own))
-        for name in plain_names(telling):
-            state = plain_state(lock, name)
-            if name != own[0] and not any(own in other and plain_state(other, name) == state for other in locks):
-                found.append(("apart", own, name))
-    return found
 
 
 def plain_lenders(telling, shop, day, lock):
@@ -66,7 +49,7 @@ class WovenTest(unittest.TestCase):
                 if woven:
                     self.check_lenders(telling, shop, day, lock)
                 else:
-                    self.assertIn(gap(telling, shop, day, lock), plain_gaps(telling, shop, day, lock))
+                    self.assertIn(gap(telling, shop, day, lock), all_gaps(telling, shop, day, lock))
                     self.assertEqual(outcome(lenders, telling, shop, day, lock), ("raised", "NoPaper", {}))
         self.assertTrue({(shop, woven, 2) for shop in SHOPS for woven in (True, False)} <= seen)
 
@@ -103,7 +86,7 @@ class WovenTest(unittest.TestCase):
     def test_gaps_and_no_others(self):
         for telling in made_up(6, 44):
             for shop, day, lock in itertools.product(SHOPS, (0, 2, 5), LOCKS[::4]):
-                gaps = plain_gaps(telling, shop, day, lock)
+                gaps = all_gaps(telling, shop, day, lock)
                 self.assertEqual(bool(gaps), not plain_woven(telling, shop, day, lock))
                 things = [(word, own) for word in ("never", "early", "late") for own in lock + (("new", 1), ("a", 1))]
                 things += [("apart", own, name) for own in lock + (("a", 2), ("new", 1))
