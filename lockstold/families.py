@@ -87,9 +87,9 @@ def _losing(families, at, family):
     for parts in steps:
         tried = [(held, left, part) for held, left in better for part in parts]
         if even is not None:
-            own = (parts[0][0], state_of(answer, parts[0][0]))
-            tried.extend([(even, family, part) for part in parts[:parts.index(own)]])
-            even = even + (own,)
+            alike = (parts[0][0], state_of(answer, parts[0][0]))
+            tried.extend([(even, family, part) for part in parts[:parts.index(alike)]])
+            even = even + (alike,)
         grown = [(held + (part,), _left_with(families, ends, held, left, part)) for held, left, part in tried]
         better = [own for own in grown if own[1] != 0]
     found = 0
